@@ -1,0 +1,1 @@
+"""Whyfacts: facts by rules, and the reasons of each."""
