@@ -3,25 +3,14 @@ import itertools
 import random
 import unittest
 
-from refusals import refusal_of
+from helper import held_in, numbers, refusal_of
 from whyfacts.bodies import fills_of, grounds_of
 from whyfacts.errors import TooMany
-from whyfacts.reading import read_body, read_program
+from whyfacts.reading import read_body
 
 
 def body_in(text):
     return read_body(text)
-
-
-def held_in(text):
-    held = {}
-    for fact in read_program(text)[1]:
-        held.setdefault(fact[0], []).append(fact)
-    return held
-
-
-def numbers(name, many):
-    return {name: [(name, number) for number in range(many)]}
 
 
 def says(part, fill, held):

@@ -1,6 +1,6 @@
 import unittest
 
-from refusals import odd_things, refusal_of
+from helper import odd_things, refusal_of
 from whyfacts.errors import BadFact, BadRule, BadWidth, Unbound
 from whyfacts.forms import is_fact, is_part, is_pattern, need_body, need_fact, widths_of, words_in
 

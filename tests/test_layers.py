@@ -3,15 +3,10 @@ import itertools
 import random
 import unittest
 
-from refusals import refusal_of
+from helper import refusal_of, rules_in
 from whyfacts.errors import Ringed
 from whyfacts.layers import by_layers, layers_of, ring_of
 from whyfacts.leans import leans_of
-from whyfacts.reading import read_program
-
-
-def rules_in(text):
-    return read_program(text)[0]
 
 
 def names_in(rules):

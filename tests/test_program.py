@@ -1,6 +1,6 @@
 import unittest
 
-from refusals import odd_things, refusal_of
+from helper import odd_things, refusal_of
 from whyfacts.errors import BadRule, BadWidth, Ringed, TooMany, Unbound
 from whyfacts.program import need_program
 from whyfacts.reading import read_program

@@ -1,6 +1,6 @@
 import unittest
 
-from refusals import odd_things, refusal_of
+from helper import odd_things, refusal_of
 from whyfacts.errors import NoText
 from whyfacts.reading import read_body, read_fact, read_program
 

@@ -1,7 +1,7 @@
 import copy
 import unittest
 
-from refusals import odd_things, refusal_of
+from helper import odd_things, refusal_of
 from whyfacts.errors import BadRule, BadWidth, TooMany, Unbound
 from whyfacts.forms import need_rules
 

@@ -3,7 +3,7 @@ import random
 import string
 import unittest
 
-from refusals import odd_things
+from helper import odd_things
 from whyfacts import words
 from whyfacts.words import is_free, is_name, is_number, is_term, is_value, rank_of
 
