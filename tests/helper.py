@@ -4,6 +4,7 @@ from whyfacts.errors import FactError
 from whyfacts.layers import layers_of
 from whyfacts.program import need_program
 from whyfacts.reading import read_program
+from whyfacts.store import Store
 
 
 class Prickly:
@@ -66,6 +67,39 @@ def held_by_name(facts):
     for fact in facts:
         held.setdefault(fact[0], []).append(fact)
     return held
+
+
+TOLD = ("told",)
+
+
+def has(*fact):
+    return ("has", fact)
+
+
+def by(number, *grounds):
+    return ("by", number, grounds)
+
+
+def of(number, key_values, *grounds):
+    return ("of", number, key_values, grounds)
+
+
+def store_of(*pairs):
+    """A store that holds facts with reasons, handed in as pairs."""
+    store = Store()
+    for fact, reason in pairs:
+        store.hold(fact, reason)
+    return store
+
+
+def store_with(text):
+    """A store that holds the facts of a text as told ones."""
+    return store_of(*[(fact, TOLD) for fact in facts_in(text)])
+
+
+def whole(store):
+    """All that a store tells of its facts."""
+    return [(fact, store.reason(fact), store.stamp(fact)) for fact in store.facts()]
 
 
 def numbers(name, many):

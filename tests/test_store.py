@@ -1,23 +1,18 @@
 import unittest
 
-from helper import refusal_of
+from helper import TOLD, refusal_of, whole
 from whyfacts.errors import NoFact
 from whyfacts.store import Store
 
-TOLD = ("told",)
 BY = ("by", 0, (("has", ("p", 1)),))
 OF = ("of", 1, (), ((("has", ("p", 1)),),))
 
 
-def store_of(*facts):
+def store_told(*facts):
     store = Store()
     for fact in facts:
         store.hold(fact, TOLD)
     return store
-
-
-def whole(store):
-    return [(fact, store.reason(fact), store.stamp(fact)) for fact in store.facts()]
 
 
 class Holding(unittest.TestCase):
@@ -37,7 +32,7 @@ class Holding(unittest.TestCase):
         self.assertEqual(whole(store), [(("p", 1), TOLD, 0), (("a",), BY, 1), (("p", 0), OF, 2)])
 
     def test_a_fact_that_is_held_already(self):
-        store = store_of(("p",), ("q",))
+        store = store_told(("p",), ("q",))
         self.assertIs(store.hold(("p",), BY), False)
         self.assertEqual(whole(store), [(("p",), TOLD, 0), (("q",), TOLD, 1)])
         self.assertIs(store.hold(("r",), BY), True)
@@ -51,11 +46,11 @@ class Holding(unittest.TestCase):
         self.assertEqual(store.held(), {"p": [("p", "X", None), ("p", 1, 2, 3, 4, 5, 6)]})
 
     def test_more_facts_than_a_program_may_have(self):
-        store = store_of(*[("n", number) for number in range(300)])
+        store = store_told(*[("n", number) for number in range(300)])
         self.assertEqual(len(store.facts()), 300)
 
     def test_stores_are_their_own(self):
-        one = store_of(("p",))
+        one = store_told(("p",))
         self.assertEqual(Store().facts(), [])
         self.assertEqual(one.facts(), [("p",)])
 
@@ -70,7 +65,7 @@ class Dropping(unittest.TestCase):
         self.assertEqual(whole(store), [(("q",), TOLD, 1)])
 
     def test_drop_and_hold_again(self):
-        store = store_of(("p",), ("q",), ("r",))
+        store = store_told(("p",), ("q",), ("r",))
         store.drop(("p",))
         self.assertIs(store.hold(("p",), BY), True)
         self.assertEqual(whole(store), [(("q",), TOLD, 1), (("r",), TOLD, 2), (("p",), BY, 3)])
@@ -79,14 +74,14 @@ class Dropping(unittest.TestCase):
         self.assertEqual(store.stamp(("p",)), 4)
 
     def test_no_stamp_comes_again(self):
-        store = store_of(("p",))
+        store = store_told(("p",))
         for stamp in range(5):
             self.assertEqual(store.stamp(("p",)), stamp)
             store.drop(("p",))
             store.hold(("p",), TOLD)
 
     def test_no_fact(self):
-        store = store_of(("p",), ("q",))
+        store = store_told(("p",), ("q",))
         store.drop(("q",))
         for call in (store.drop, store.reason, store.stamp):
             for fact in [("q",), ("r",), ("p", 1)]:
@@ -97,7 +92,7 @@ class Dropping(unittest.TestCase):
 
 class Telling(unittest.TestCase):
     def test_facts_and_held_by_stamps(self):
-        store = store_of(("q", 2), ("p", 1), ("q", 1), ("p",), ("r",))
+        store = store_told(("q", 2), ("p", 1), ("q", 1), ("p",), ("r",))
         store.drop(("q", 2))
         store.drop(("r",))
         store.hold(("q", 2), TOLD)
@@ -105,14 +100,14 @@ class Telling(unittest.TestCase):
         self.assertEqual(store.held(), {"p": [("p", 1), ("p",)], "q": [("q", 1), ("q", 2)]})
 
     def test_only_names_that_have_some(self):
-        store = store_of(("p",), ("q",))
+        store = store_told(("p",), ("q",))
         store.drop(("p",))
         self.assertEqual(store.held(), {"q": [("q",)]})
         store.drop(("q",))
         self.assertEqual(store.held(), {})
 
     def test_what_was_told_stays_and_may_be_changed(self):
-        store = store_of(("p",), ("q",))
+        store = store_told(("p",), ("q",))
         facts = store.facts()
         held = store.held()
         store.drop(("p",))
@@ -139,7 +134,7 @@ class Copying(unittest.TestCase):
         self.assertEqual(whole(other), whole(store))
 
     def test_each_goes_its_own_way(self):
-        store = store_of(("p",), ("q",))
+        store = store_told(("p",), ("q",))
         other = store.copied()
         other.drop(("p",))
         other.hold(("r",), BY)
@@ -150,7 +145,7 @@ class Copying(unittest.TestCase):
         self.assertEqual(whole(store), [(("p",), TOLD, 0), (("s",), OF, 2)])
 
     def test_the_next_stamp_is_the_others_next_one(self):
-        store = store_of(("p",), ("q",), ("r",))
+        store = store_told(("p",), ("q",), ("r",))
         store.drop(("r",))
         store.drop(("q",))
         other = store.copied()
@@ -165,7 +160,7 @@ class Copying(unittest.TestCase):
         self.assertEqual(whole(empty), [(("p",), TOLD, 4)])
 
     def test_the_order_behind_drops(self):
-        store = store_of(("p",), ("q",), ("r",))
+        store = store_told(("p",), ("q",), ("r",))
         store.drop(("p",))
         store.hold(("p",), TOLD)
         other = store.copied()

@@ -2,30 +2,12 @@ import copy
 import random
 import unittest
 
-from helper import facts_in, refusal_of, rules_in, slow_work, some_facts, some_program
+from helper import TOLD, facts_in, has, refusal_of, rules_in, slow_work, some_facts, some_program, store_with, whole
 from whyfacts.errors import TooMany
 from whyfacts.reading import read_program
 from whyfacts.store import Store
 from whyfacts.working import closed, worked
 from whyfacts.words import rank_of
-
-TOLD = ("told",)
-
-
-def has(*fact):
-    return ("has", fact)
-
-
-def store_with(text):
-    store = Store()
-    for fact in facts_in(text):
-        store.hold(fact, TOLD)
-    return store
-
-
-def whole(store):
-    return [(fact, store.reason(fact), store.stamp(fact)) for fact in store.facts()]
-
 
 def worked_in(text):
     rules, told = read_program(text)

@@ -50,3 +50,14 @@ def gathered(number, rule, held):
         if fact is not None:
             found.append((fact, ("of", number, key_values, grounds_of_group(group))))
     return found
+
+
+# The grounds of a group's fills are all different, so as many and the same ones is each of them once, in any order.
+def group_tells(rule, groups, fact, key_values, grounds):
+    if key_values not in groups:
+        return False
+    group = groups[key_values]
+    own = grounds_of_group(group)
+    if len(own) != len(grounds) or set(own) != set(grounds):
+        return False
+    return fact_of_group(rule, key_values, group) == fact
