@@ -1,10 +1,13 @@
 """What several tests use: which class refuses a call, things of many kinds, programs, and a slow way to work them."""
 
+import random
+
 from whyfacts.errors import FactError
 from whyfacts.layers import layers_of
 from whyfacts.program import need_program
 from whyfacts.reading import read_program
 from whyfacts.store import Store
+from whyfacts.working import worked
 
 
 class Prickly:
@@ -127,7 +130,8 @@ def some_body(rng):
     parts = []
     bound = []
     for _ in range(rng.randint(1, 4)):
-        kind = rng.choice(["has", "has", "has", "not", "not", "less", "plus", rng.choice(["same", "has"])] if bound else ["has", "has", "not"])
+        kind = rng.choice(["has", "has", "has", "not", "not", "less", "plus",
+                           rng.choice(["same", "has"])] if bound else ["has", "has", "not"])
         if kind in ("has", "not"):
             part = (kind, some_pattern(rng, bound, fresh=kind == "has"))
             bound += words_of(part[1])
@@ -166,6 +170,16 @@ def some_facts(rng, many):
         name = rng.choice(names)
         found.append((name,) + tuple(rng.choice(VALUES) for _ in range(WIDTHS.get(name, rng.randint(0, 2)))))
     return found
+
+
+def some_worked(seed, many):
+    """Rules, told facts and the store of working from the start, where that isn't refused."""
+    rng = random.Random(seed)
+    for turn in range(many):
+        rules = some_program(rng)
+        told = some_facts(rng, rng.randint(0, 14))
+        if refusal_of(worked, rules, told) is None:
+            yield turn, rules, told, worked(rules, told)
 
 
 def slow_match(terms, values, fill):
@@ -221,7 +235,8 @@ def slow_gather(rule, facts):
     found = []
     for key_values, fills in slow_groups(rule, facts).items():
         values = [fill[rule[4]] for fill in fills] if rule[4] else []
-        result = {"count": lambda: len(fills), "sum": lambda: sum(values), "least": lambda: min(values), "most": lambda: max(values)}
+        result = {"count": lambda: len(fills), "sum": lambda: sum(values), "least": lambda: min(values),
+                  "most": lambda: max(values)}
         if all(isinstance(value, int) for value in values):
             told = result[rule[2]]()
             if abs(told) <= 999999999:

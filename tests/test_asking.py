@@ -23,7 +23,8 @@ class Answers(unittest.TestCase):
 
     def test_numbers_ahead_of_names(self):
         self.check("road(a, X).", [(("X", -3),), (("X", 5),), (("X", "b"),)])
-        self.check("road(X, Y).", [(("X", 9), ("Y", "a")), (("X", 10), ("Y", "a")), (("X", "a"), ("Y", -3)), (("X", "a"), ("Y", 5)),
+        self.check("road(X, Y).", [(("X", 9), ("Y", "a")), (("X", 10), ("Y", "a")), (("X", "a"), ("Y", -3)),
+                                   (("X", "a"), ("Y", 5)),
                                    (("X", "a"), ("Y", "b")), (("X", "b"), ("Y", "c"))])
 
     def test_words_as_they_first_come_in_the_body(self):
@@ -71,7 +72,8 @@ class Refusals(unittest.TestCase):
             self.assertIs(refusal_of(answers_of, body, held or {}), refusal)
 
     def test_what_is_no_body(self):
-        for body in [None, (), [], "p(X).", ("has", ("p",)), [("has", ("p",))], (("has", ["p"]),), (("has", ("p",)),) * 7, (("more", 1, 2),)]:
+        for body in [None, (), [], "p(X).", ("has", ("p",)), [("has", ("p",))], (("has", ["p"]),),
+                     (("has", ("p",)),) * 7, (("more", 1, 2),)]:
             self.check(body, BadRule)
         for thing in odd_things():
             self.check(thing, BadRule)

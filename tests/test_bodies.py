@@ -99,13 +99,16 @@ class Fills(unittest.TestCase):
 
     def test_the_order_over_two_has(self):
         held = held_in("p(b). p(a). q(2). q(1).")
-        self.check("p(X), q(Y).", held, [{"X": "b", "Y": 2}, {"X": "b", "Y": 1}, {"X": "a", "Y": 2}, {"X": "a", "Y": 1}])
-        self.check("q(Y), p(X).", held, [{"X": "b", "Y": 2}, {"X": "a", "Y": 2}, {"X": "b", "Y": 1}, {"X": "a", "Y": 1}])
+        self.check("p(X), q(Y).", held, [{"X": "b", "Y": 2}, {"X": "b", "Y": 1}, {"X": "a", "Y": 2},
+                                         {"X": "a", "Y": 1}])
+        self.check("q(Y), p(X).", held, [{"X": "b", "Y": 2}, {"X": "a", "Y": 2}, {"X": "b", "Y": 1},
+                                         {"X": "a", "Y": 1}])
 
     def test_the_order_over_three_has(self):
         held = held_in("p(2). p(1).")
         told = fills_of(body_in("p(X), p(Y), p(Z)."), held)
-        self.assertEqual([(fill["X"], fill["Y"], fill["Z"]) for fill, grounds in told], list(itertools.product((2, 1), repeat=3)))
+        self.assertEqual([(fill["X"], fill["Y"], fill["Z"]) for fill, grounds in told],
+                         list(itertools.product((2, 1), repeat=3)))
 
     def test_the_order_of_facts_that_share_words(self):
         held = held_in("road(c, a). road(a, c). road(a, b). road(b, c). road(c, b).")
@@ -132,12 +135,14 @@ class Fills(unittest.TestCase):
             for fact in facts[:rng.randint(0, 20)]:
                 held.setdefault(fact[0], []).append(fact)
             body = (("has", ("q", "X", rng.choice(["Y", "X", 1]))),)
-            more = [("has", ("p", "X")), ("has", ("q", "X", "Z")), ("not", ("p", "X")), ("not", ("q", "X", "X")), ("less", "X", 2),
+            more = [("has", ("p", "X")), ("has", ("q", "X", "Z")), ("not", ("p", "X")), ("not", ("q", "X", "X")),
+                    ("less", "X", 2),
                     ("same", "X", "a"), ("plus", "X", 1, "Z"), ("plus", "X", "X", "X"), ("has", ("q", "Z", "X"))]
             body += tuple(rng.sample(more, rng.randint(0, 3)))
             words = sorted({term for part in body for term in str(part).split("'") if term in ("X", "Y", "Z")})
             with self.subTest(turn):
-                self.assertEqual([fill for fill, grounds in fills_of(body, held)], all_fills(body, words, values + [3], held))
+                self.assertEqual([fill for fill, grounds in fills_of(body, held)],
+                                 all_fills(body, words, values + [3], held))
 
     def test_what_is_told_may_be_changed(self):
         held = held_in("p(a). p(b).")
@@ -154,7 +159,8 @@ class Grounds(unittest.TestCase):
     def test_of_each_kind_of_part(self):
         body = body_in("road(X, b, X), not shut(Y, 5), less(Z, 3), same(X, a), plus(Z, 1, W), rain.")
         self.assertEqual(grounds_of(body, {"X": "a", "Y": -1, "Z": 1, "W": 2}), (
-            ("has", ("road", "a", "b", "a")), ("not", ("shut", -1, 5)), ("less", 1, 3), ("same", "a", "a"), ("plus", 1, 1, 2),
+            ("has", ("road", "a", "b", "a")), ("not", ("shut", -1, 5)), ("less", 1, 3), ("same", "a", "a"),
+            ("plus", 1, 1, 2),
             ("has", ("rain",))))
 
     def test_whatever_the_parts_say(self):
@@ -166,7 +172,8 @@ class Grounds(unittest.TestCase):
         held = held_in("road(a, b). n(1).")
         self.assertEqual(fills_of(body_in("road(X, Y), n(N), less(N, 3), not shut(X), plus(N, N, M)."), held), [
             ({"X": "a", "Y": "b", "N": 1, "M": 2},
-             (("has", ("road", "a", "b")), ("has", ("n", 1)), ("less", 1, 3), ("not", ("shut", "a")), ("plus", 1, 1, 2)))])
+             (("has", ("road", "a", "b")), ("has", ("n", 1)), ("less", 1, 3), ("not", ("shut", "a")),
+              ("plus", 1, 1, 2)))])
 
     def test_kinds(self):
         told = grounds_of(body_in("p(X), not q, less(X, 1)."), {"X": 0})
@@ -202,13 +209,15 @@ class TooManyFills(unittest.TestCase):
 
     def test_where_a_later_part_leaves_fewer_or_none(self):
         held = {**numbers("n", 2001), **numbers("m", 46), "one": [("one", 1)]}
-        for body in ["n(X), same(X, 1).", "n(X), one(X).", "n(X), less(X, 0).", "n(X), not n(X).", "n(X), none(X).", "m(X), m(Y), same(X, Y).",
+        for body in ["n(X), same(X, 1).", "n(X), one(X).", "n(X), less(X, 0).", "n(X), not n(X).", "n(X), none(X).",
+                     "m(X), m(Y), same(X, Y).",
                      "m(X), m(Y), none.", "m(X), m(Y), m(X), same(1, 2).", "one(Z), m(X), m(Y), one(X)."]:
             self.check(body, held, TooMany)
 
     def test_where_an_earlier_part_leaves_fewer_or_none(self):
         held = {**numbers("n", 2001), **numbers("m", 46), "one": [("one", 1)]}
-        for body in ["one(X), n(X).", "none, n(X).", "same(1, 2), n(X).", "m(X), less(X, 40), m(Y).", "plus(1, 1, X), n(X).", "not one(1), n(X)."]:
+        for body in ["one(X), n(X).", "none, n(X).", "same(1, 2), n(X).", "m(X), less(X, 40), m(Y).",
+                     "plus(1, 1, X), n(X).", "not one(1), n(X)."]:
             self.check(body, held, None)
 
     def test_bounds_of_2000_at_each_step(self):

@@ -34,7 +34,8 @@ G_A = of(2, ("a",), w_ground("a", 5), w_ground("a", 2))
 class BrokenTest(unittest.TestCase):
     def check(self, pairs, found, numbers=None, gone=None, came=None, untold=None, rules=None):
         store = pairs if not isinstance(pairs, list) else store_of(*pairs)
-        handed = [RULES if rules is None else rules, ALL if numbers is None else numbers, gone or [], came or [], untold or []]
+        handed = [RULES if rules is None else rules, ALL if numbers is None else numbers, gone or [], came or [],
+                  untold or []]
         ahead = copy.deepcopy(handed)
         before = whole(store)
         with self.subTest((before, handed)):

@@ -36,11 +36,15 @@ class Making(DeskTest):
 
     def test_refusals_in_their_order(self):
         for text, refusal in [
-            ("p", NoText), ("p if not p. q", NoText), ("p(X).", NoText), ("p if q(1, 2, 3, 4, 5).", NoText), ("q(1, p) p if not p.", NoText),
-            ("p if q. " * 21, TooMany), ("p if not p. " * 21, TooMany), ("p(X) if q.", Unbound), ("p if not p. p(X) if q.", Unbound),
-            ("p if not p(1).", BadWidth), ("p if q. r if q(1). s if not s.", BadWidth), ("p if not p.", Ringed), ("p if not p. p(1).", Ringed),
+            ("p", NoText), ("p if not p. q", NoText), ("p(X).", NoText), ("p if q(1, 2, 3, 4, 5).", NoText),
+            ("q(1, p) p if not p.", NoText),
+            ("p if q. " * 21, TooMany), ("p if not p. " * 21, TooMany), ("p(X) if q.", Unbound),
+            ("p if not p. p(X) if q.", Unbound),
+            ("p if not p(1).", BadWidth), ("p if q. r if q(1). s if not s.", BadWidth), ("p if not p.", Ringed),
+            ("p if not p. p(1).", Ringed),
             ("p if q. p(1).", BadWidth), ("p if q. q. q(1).", BadWidth), ("p(1). p if q.", BadWidth),
-            (" ".join(f"n({number})." for number in range(201)), TooMany), ("n(Y) if n(X), plus(X, 1, Y). n(0).", TooMany),
+            (" ".join(f"n({number})." for number in range(201)), TooMany),
+            ("n(Y) if n(X), plus(X, 1, Y). n(0).", TooMany),
             ("p(X) if N is count: q(X).", Unbound),
         ]:
             with self.subTest(text):
@@ -80,7 +84,8 @@ class Changes(DeskTest):
 
     def test_refused_changes_change_nothing(self):
         desk = Desk("m(X) if n(X), not off. off. " + " ".join(f"n({number})." for number in range(101)))
-        for line, row in [("+ n(1, 2).", "bad width"), ("- n.", "bad width"), ("- off.", "too many"), ("+ n(X).", "no text"), ("- off", "no text")]:
+        for line, row in [("+ n(1, 2).", "bad width"), ("- n.", "bad width"), ("- off.", "too many"),
+                          ("+ n(X).", "no text"), ("- off", "no text")]:
             self.check(desk, line, row)
             self.check(desk, "? off, n(100), not m(1).", "yes")
         self.check(desk, "- n(0).", "- n(0).")
@@ -93,7 +98,8 @@ class Questions(DeskTest):
         desk = Desk(WAYS)
         self.check(desk, "? way(a, X), not shut(X).", "X = b", "X = c")
         self.check(desk, "? way(X, Y).", "X = a, Y = b", "X = a, Y = c", "X = b, Y = c")
-        self.check(desk, "? road(Y, X), many(N), plus(N, -5, Z).", "Y = a, X = b, N = 3, Z = -2", "Y = b, X = c, N = 3, Z = -2")
+        self.check(desk, "? road(Y, X), many(N), plus(N, -5, Z).", "Y = a, X = b, N = 3, Z = -2",
+                   "Y = b, X = c, N = 3, Z = -2")
         self.check(desk, "? plus(1, 2, Sum).", "Sum = 3")
 
     def test_yes_and_no(self):
@@ -143,10 +149,13 @@ class Whys(DeskTest):
     def test_rows_of_reasons(self):
         desk = Desk(WAYS)
         self.check(desk, "why road(a, b).", "1 road(a, b): told")
-        self.check(desk, "why way(a, c).", "1 road(a, b): told", "2 road(b, c): told", "3 way(a, b): by 0 from 1, not shut(a)",
+        self.check(desk, "why way(a, c).", "1 road(a, b): told", "2 road(b, c): told",
+                   "3 way(a, b): by 0 from 1, not shut(a)",
                    "4 way(a, c): by 1 from 3, 2")
-        self.check(desk, "why many(3).", "1 road(a, b): told", "2 road(b, c): told", "3 way(a, b): by 0 from 1, not shut(a)",
-                   "4 way(b, c): by 0 from 2, not shut(b)", "5 way(a, c): by 1 from 3, 2", "6 many(3): of 2 from 3; 4; 5")
+        self.check(desk, "why many(3).", "1 road(a, b): told", "2 road(b, c): told",
+                   "3 way(a, b): by 0 from 1, not shut(a)",
+                   "4 way(b, c): by 0 from 2, not shut(b)", "5 way(a, c): by 1 from 3, 2",
+                   "6 many(3): of 2 from 3; 4; 5")
         self.check(desk, "why  road(a,b)\n.", "1 road(a, b): told")
 
     def test_no_fact(self):
@@ -158,17 +167,22 @@ class Whys(DeskTest):
 
     def test_no_text(self):
         desk = Desk(WAYS)
-        for line in ["why way(a, X).", "why way(a, b)", "why", "why ", "why way(a, b), road(a, b).", "why not shut(a).", "why why(a)."]:
+        for line in ["why way(a, X).", "why way(a, b)", "why", "why ", "why way(a, b), road(a, b).", "why not shut(a).",
+                     "why why(a)."]:
             self.check(desk, line, "no text")
 
 
 class Lines(DeskTest):
     def test_lines_that_are_none(self):
         desk = Desk("rain.")
-        for line in ["", " ", "+", "-", "?", "+ ", "? ", "+rain.", "-rain.", "?rain.", " + rain.", "\n+ rain.", "rain.", "rain", "+\nrain.", "?\nrain.",
-                     "why\nrain.", "whyrain.", "Why rain.", "? .", "+ .", "+ rain", "+ rain. rain.", "+ rain, sun.", "+ p if q.", "? p if q.",
-                     "++ rain.", "+ + rain.", "- - rain.", "! rain.", "= rain.", "how rain.", "+\train.", "+ rain.\t", "+ ra\tin.", "+ 5.", "+ -5.",
-                     "+ X.", "+ not rain.", "+ has.", "? has.", "? N is count: rain.", "+ rain. % more", "+ rain(). ", "? rain. sun.", "\u00a0+ rain.",
+        for line in ["", " ", "+", "-", "?", "+ ", "? ", "+rain.", "-rain.", "?rain.", " + rain.", "\n+ rain.", "rain.",
+                     "rain", "+\nrain.", "?\nrain.",
+                     "why\nrain.", "whyrain.", "Why rain.", "? .", "+ .", "+ rain", "+ rain. rain.", "+ rain, sun.",
+                     "+ p if q.", "? p if q.",
+                     "++ rain.", "+ + rain.", "- - rain.", "! rain.", "= rain.", "how rain.", "+\train.", "+ rain.\t",
+                     "+ ra\tin.", "+ 5.", "+ -5.",
+                     "+ X.", "+ not rain.", "+ has.", "? has.", "? N is count: rain.", "+ rain. % more", "+ rain(). ",
+                     "? rain. sun.", "\u00a0+ rain.",
                      "+\u00a0rain.", "- 5.", "-5.", "-5 rain.", "is rain.", "put rain.", ". rain."]:
             self.check(desk, line, "no text")
         self.check(desk, "? rain, not sun.", "yes")

@@ -21,20 +21,24 @@ class Drawing(unittest.TestCase):
         row = [(("road", "a", "b"), TOLD), (("way", "b", "c"), TOLD),
                (("way", "a", "c"), by(1, has("way", "b", "c"), has("road", "a", "b"), ("not", ("shut", "c")))),
                (("many", 2), of(0, (), (has("road", "a", "b"),), (has("way", "b", "c"),)))]
-        self.assertEqual(drawn(row), ["1 road(a, b): told", "2 way(b, c): told", "3 way(a, c): by 1 from 2, 1, not shut(c)",
+        self.assertEqual(drawn(row), ["1 road(a, b): told", "2 way(b, c): told",
+                                      "3 way(a, c): by 1 from 2, 1, not shut(c)",
                                       "4 many(2): of 0 from 1; 2"])
 
     def test_each_kind_of_ground(self):
-        row = [(("n", 1), TOLD), (("p",), by(12, has("n", 1), ("not", ("r",)), ("not", ("r", 1, "a")), ("less", 1, 5), ("same", "a", "a"),
+        row = [(("n", 1), TOLD), (("p",), by(12, has("n", 1), ("not", ("r",)), ("not", ("r", 1, "a")), ("less", 1, 5),
+                                             ("same", "a", "a"),
                                              ("plus", 1, -2, -1)))]
-        self.assertEqual(drawn(row)[1], "2 p: by 12 from 1, not r, not r(1, a), less(1, 5), same(a, a), plus(1, -2, -1)")
+        self.assertEqual(drawn(row)[1],
+                         "2 p: by 12 from 1, not r, not r(1, a), less(1, 5), same(a, a), plus(1, -2, -1)")
 
     def test_grounds_without_a_has(self):
         self.assertEqual(drawn([(("p",), by(0, ("not", ("q",))))]), ["1 p: by 0 from not q"])
         self.assertEqual(drawn([(("p", 3), of(4, (), (("plus", 1, 2, 3),)))]), ["1 p(3): of 4 from plus(1, 2, 3)"])
 
     def test_an_of_with_several_fills_of_several_parts(self):
-        self.assertEqual(drawn_in("g(X, N) if N is sum W by X: w(X, W), not z(W), s. w(a, 2). w(a, 1). w(b, 7). s.", ("g", "a", 3)), [
+        self.assertEqual(drawn_in("g(X, N) if N is sum W by X: w(X, W), not z(W), s. w(a, 2). w(a, 1). w(b, 7). s.",
+                                  ("g", "a", 3)), [
             "1 s: told", "2 w(a, 1): told", "3 w(a, 2): told", "4 g(a, 3): of 0 from 2, not z(1), 1; 3, not z(2), 1"])
 
     def test_a_has_twice(self):
@@ -44,7 +48,8 @@ class Drawing(unittest.TestCase):
         rows = drawn_in("n(Y) if n(X), less(X, 12), plus(X, 1, Y). n(0).", ("n", 12))
         self.assertEqual(len(rows), 13)
         self.assertEqual(rows[0], "1 n(0): told")
-        self.assertEqual(rows[9:11], ["10 n(9): by 0 from 9, less(8, 12), plus(8, 1, 9)", "11 n(10): by 0 from 10, less(9, 12), plus(9, 1, 10)"])
+        self.assertEqual(rows[9:11], ["10 n(9): by 0 from 9, less(8, 12), plus(8, 1, 9)",
+                                      "11 n(10): by 0 from 10, less(9, 12), plus(9, 1, 10)"])
 
     def test_a_new_list_and_the_row_stays(self):
         row = [(("p",), TOLD)]

@@ -11,7 +11,8 @@ NO_PATTERNS = [
     (), ("",), ("has",), ("why", 1), ("A",), ("Road", "a"), (1,), (1, "a"), ("abcdefghi",), ("road ", "a"),
     ("w", 1, 2, 3, 4, 5), ("w", "A", "B", "C", "D", "E"), ("w",) + (0,) * 40,
     ("p", ""), ("p", "not"), ("p", "X", "is"), ("p", "XY"), ("p", "a b"), ("p", 1000000000), ("p", -1000000000),
-    ("p", True), ("p", False), ("p", None), ("p", 1.0), ("p", ["a"]), ("p", ("a",)), ("p", {}), ("p", "a", "b", "c", ()),
+    ("p", True), ("p", False), ("p", None), ("p", 1.0), ("p", ["a"]), ("p", ("a",)), ("p", {}),
+    ("p", "a", "b", "c", ()),
     ["road", "a", "b"], ["rain"], [], "rain", "road", "", 5, {"road": "a"}, (("road", "a"),), (["road"],), (None,),
 ]
 
@@ -116,9 +117,11 @@ BOUND_BODIES = [
 UNBOUND_BODIES = [
     (("not", ("shut", "X")),), (("not", ("shut", "X")), ("has", ("road", "X"))), (ROAD, ("not", ("shut", "X", "Z"))),
     (("less", "X", 1),), (("less", 1, "X"),), (("less", "X", "Y"), ROAD), (ROAD, ("less", "Z", "X")),
-    (ROAD, ("less", "X", "Z")), (("same", "X", "X"),), (("same", "X", 1),), (("same", 1, "X"),), (ROAD, ("same", "X", "Z")),
+    (ROAD, ("less", "X", "Z")), (("same", "X", "X"),), (("same", "X", 1),), (("same", 1, "X"),),
+    (ROAD, ("same", "X", "Z")),
     (ROAD, ("same", "Z", "X")), (("same", "X", "Y"), ROAD), (("plus", "X", 1, "Y"),), (("plus", 1, "X", "Y"),),
-    (("plus", "X", 1, "X"),), (("plus", 1, "X", "X"),), (ROAD, ("plus", "Z", "X", "Y")), (ROAD, ("plus", "X", "Z", "Y")),
+    (("plus", "X", 1, "X"),), (("plus", 1, "X", "X"),), (ROAD, ("plus", "Z", "X", "Y")),
+    (ROAD, ("plus", "X", "Z", "Y")),
     (("plus", "X", "Y", "Z"), ROAD), (ROAD, ("less", "Z", 1), ("plus", "X", "Y", "Z")),
     (ROAD, ROAD, ROAD, ROAD, ROAD, ("not", ("shut", "Z"))), (("not", ("p", "X")), ("not", ("p", "X"))),
     (ROAD, ("same", "Z", 1), ("less", "Z", 2)),
@@ -170,7 +173,8 @@ class WordsIn(unittest.TestCase):
     def test_each_once_as_they_come(self):
         self.assertEqual(words_in((RAIN,)), [])
         self.assertEqual(words_in((ROAD,)), ["X", "Y"])
-        self.assertEqual(words_in((("has", ("p", "Z", "a", "Z", "B")), ("has", ("q", "A", "Z", "Y")))), ["Z", "B", "A", "Y"])
+        self.assertEqual(words_in((("has", ("p", "Z", "a", "Z", "B")), ("has", ("q", "A", "Z", "Y")))),
+                         ["Z", "B", "A", "Y"])
         self.assertEqual(words_in((ROAD, ("plus", "Y", "X", "Sum"), ("not", ("shut", "Sum", 1)))), ["X", "Y", "Sum"])
         self.assertEqual(words_in((("plus", 1, 2, "B"), ("plus", "B", 1, "A"), ("less", "A", "B"))), ["B", "A"])
 

@@ -38,8 +38,10 @@ class Kinds(unittest.TestCase):
 
     def test_two_and_three_keys(self):
         held = held_in("p(a, 1, x). p(a, 1, y). p(b, 1, x). p(a, 2, x).")
-        self.check("g(A, B, N) if N is count by A, B: p(A, B, C).", [("g", "a", 1, 2), ("g", "b", 1, 1), ("g", "a", 2, 1)], held)
-        self.check("g(A, B, N) if N is count by B, A: p(A, B, C).", [("g", "a", 1, 2), ("g", "b", 1, 1), ("g", "a", 2, 1)], held)
+        self.check("g(A, B, N) if N is count by A, B: p(A, B, C).",
+                   [("g", "a", 1, 2), ("g", "b", 1, 1), ("g", "a", 2, 1)], held)
+        self.check("g(A, B, N) if N is count by B, A: p(A, B, C).",
+                   [("g", "a", 1, 2), ("g", "b", 1, 1), ("g", "a", 2, 1)], held)
         self.check("g(C, B, A, N) if N is count by A, B, C: p(A, B, C).",
                    [("g", "x", 1, "a", 1), ("g", "y", 1, "a", 1), ("g", "x", 1, "b", 1), ("g", "x", 2, "a", 1)], held)
 
@@ -69,7 +71,8 @@ class NamesAmongValues(unittest.TestCase):
     def test_such_a_group_tells_nothing(self):
         for kind, told in [("sum", 6), ("least", 2), ("most", 4)]:
             with self.subTest(kind):
-                self.assertEqual(facts_of(gathered_in(f"g(X, N) if N is {kind} W by X: w(X, W).", self.HELD)), [("g", "b", told)])
+                self.assertEqual(facts_of(gathered_in(f"g(X, N) if N is {kind} W by X: w(X, W).", self.HELD)),
+                                 [("g", "b", told)])
                 self.assertEqual(gathered_in(f"g(N) if N is {kind} W: w(X, W).", self.HELD), [])
 
     def test_but_a_count_does(self):
@@ -84,7 +87,8 @@ class Bounds(unittest.TestCase):
     def check(self, values, kind, told):
         held = {"w": [("w", place, value) for place, value in enumerate(values)]}
         with self.subTest((values, kind)):
-            self.assertEqual(facts_of(gathered_in(f"g(N) if N is {kind} W: w(X, W).", held)), [("g", told)] if told is not None else [])
+            self.assertEqual(facts_of(gathered_in(f"g(N) if N is {kind} W: w(X, W).", held)),
+                             [("g", told)] if told is not None else [])
 
     def test_sums_at_the_bound_and_beyond(self):
         self.check([MOST - 1, 1], "sum", MOST)

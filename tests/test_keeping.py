@@ -56,7 +56,8 @@ class KeepTest(unittest.TestCase):
 class Making(KeepTest):
     def test_refused_as_need_program(self):
         ring = ("rule", ("p",), (("not", ("p",)),))
-        for rules, refusal in [(None, BadRule), ((), BadRule), ("p if q.", BadRule), ([None], BadRule), ([ring] * 21, TooMany),
+        for rules, refusal in [(None, BadRule), ((), BadRule), ("p if q.", BadRule), ([None], BadRule),
+                               ([ring] * 21, TooMany),
                                ([ring, ("rule", ("p", "X"), (("has", ("q",)),))], Unbound), ([ring], Ringed),
                                ([ring, ("rule", ("p", 1), (("has", ("q",)),))], BadWidth)]:
             with self.subTest(rules):
@@ -138,10 +139,12 @@ class Changes(KeepTest):
 
     def test_layers_of_gathers(self):
         keep = keep_of("out(X, N) if N is count by X: e(X, Y). top(M) if M is most N: out(X, N). best(X) if out(X, N), top(N).")
-        self.put(keep, "e(a, 1). e(a, 2). e(b, 1).", "best(a). e(a, 1). e(a, 2). e(b, 1). out(a, 2). out(b, 1). top(2).")
+        self.put(keep, "e(a, 1). e(a, 2). e(b, 1).",
+                 "best(a). e(a, 1). e(a, 2). e(b, 1). out(a, 2). out(b, 1). top(2).")
         self.put(keep, "e(b, 2).", "best(b). e(b, 2). out(b, 2).", "out(b, 1).")
         self.take(keep, "e(a, 1).", "out(a, 1).", "best(a). e(a, 1). out(a, 2).")
-        self.take(keep, "e(b, 1). e(b, 2). e(a, 2).", "", "best(b). e(a, 2). e(b, 1). e(b, 2). out(a, 1). out(b, 2). top(2).")
+        self.take(keep, "e(b, 1). e(b, 2). e(a, 2).", "",
+                  "best(b). e(a, 2). e(b, 1). e(b, 2). out(a, 1). out(b, 2). top(2).")
 
     def test_rings_of_rules_hold_nothing_up(self):
         keep = keep_of("p if q. q if p. p if s.")
@@ -174,7 +177,8 @@ class Reasons(KeepTest):
         keep = keep_of("p if q. r if p.", "p. q.")
         self.assertEqual(whole(keep.store()), [(("p",), TOLD, 0), (("q",), TOLD, 1), (("r",), by(1, has("p")), 2)])
         self.take(keep, "p.", "")
-        self.assertEqual(whole(keep.store()), [(("q",), TOLD, 1), (("p",), by(0, has("q")), 3), (("r",), by(1, has("p")), 4)])
+        self.assertEqual(whole(keep.store()), [(("q",), TOLD, 1), (("p",), by(0, has("q")), 3),
+                                               (("r",), by(1, has("p")), 4)])
 
     def test_stamps_and_reasons_of_what_is_not_broken_stay(self):
         keep = keep_of(WAYS, "road(a, b). road(b, c). road(x, y).")
@@ -198,8 +202,18 @@ class Reasons(KeepTest):
         keep.put(facts_in("y. a(2). a(1)."))
         self.assertEqual(keep.store().facts(), facts_in("a(1). a(2). y. b(1). b(2). c(1). c(2). many(2)."))
         keep.put(facts_in("z(1). a(3)."))
-        self.assertEqual(keep.store().facts(), facts_in("a(1). a(2). y. b(1). b(2). c(2). a(3). z(1). b(3). c(3). many(2)."))
-        self.assertEqual([keep.store().stamp(fact) for fact in keep.store().facts()], [0, 1, 2, 3, 4, 6, 8, 9, 10, 11, 12])
+        self.assertEqual(keep.store().facts(),
+                         facts_in("a(1). a(2). y. b(1). b(2). c(2). a(3). z(1). b(3). c(3). many(2)."))
+        self.assertEqual([keep.store().stamp(fact) for fact in keep.store().facts()],
+                         [0, 1, 2, 3, 4, 6, 8, 9, 10, 11, 12])
+
+    def test_told_facts_are_held_with_their_layer(self):
+        keep = Keep(rules_in("b if a. c if not z. d if c, not y."))
+        keep.put(facts_in("d. c. a. x."))
+        self.assertEqual(keep.store().facts(), facts_in("a. x. b. c. d."))
+        keep.take(facts_in("c. a."))
+        self.assertEqual(keep.store().facts(), facts_in("x. d. c."))
+        self.assertEqual(keep.why(("d",)), [(("d",), TOLD)])
 
     def test_a_group_that_is_the_same_stays(self):
         keep = keep_of("g(X, N) if N is count by X: e(X, Y).", "e(a, 1). e(b, 1).")
@@ -284,7 +298,8 @@ class Refusals(KeepTest):
 
     def test_things_of_any_kind_among_the_facts(self):
         keep = keep_of("p(X) if q(X).", "q(1). r.")
-        for thing in odd_things() + [("p", "X"), ["q", 1], ("q", True), ("Q", 1), ("has", 1), "q(1).", ("q", 1, 2, 3, 4, 5), ("x", 1000000000)]:
+        for thing in odd_things() + [("p", "X"), ["q", 1], ("q", True), ("Q", 1), ("has", 1), "q(1).",
+                                     ("q", 1, 2, 3, 4, 5), ("x", 1000000000)]:
             self.check(keep, [thing], BadFact)
             self.check(keep, [("q", 2), thing], BadFact)
             self.check(keep, [thing, ("q", 2)], BadFact)
@@ -365,6 +380,17 @@ class Refusals(KeepTest):
         self.assertEqual(len(keep.facts()), 200)
         self.check_whole(keep)
 
+    def test_many_facts_of_upper_layers_make_room(self):
+        keep = keep_of("m(X) if n(X), not off. k(X) if m(X).")
+        keep.put([("n", number) for number in range(60)])
+        before = state_of(keep)
+        more = [("x", number) for number in range(140)]
+        self.assertIs(refusal_of(keep.put, [("off",)] + more), TooMany)
+        self.assertEqual(state_of(keep), before)
+        pair = keep.put([("off",)] + more[1:])
+        self.assertEqual((len(pair[0]), len(pair[1]), len(keep.facts())), (140, 120, 200))
+        self.check_whole(keep)
+
     def test_where_it_would_never_end(self):
         keep = keep_of("n(Y) if n(X), plus(X, 1, Y).", "x.")
         before = state_of(keep)
@@ -427,7 +453,8 @@ class ManyChanges(KeepTest):
         done = 0
         for step in range(60):
             change = rng.choice(["put", "take"])
-            facts = [rng.choice([("p", rng.randint(0, 15)), ("off",), ("x", rng.randint(0, 30))]) for _ in range(rng.randint(0, 4))]
+            facts = [rng.choice([("p", rng.randint(0, 15)), ("off",),
+                                 ("x", rng.randint(0, 30))]) for _ in range(rng.randint(0, 4))]
             with self.subTest(step):
                 done += self.check_change(keep, change, facts)
         self.assertTrue(20 < done < 60, done)

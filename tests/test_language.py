@@ -170,7 +170,8 @@ def faults_of_walks(tree):
         joins = isinstance(node.func, ast.Attribute) and node.func.attr == "join"
         if node.args and (joins or isinstance(node.func, ast.Name) and node.func.id in WALKERS):
             walked.append(node.args[0])
-    faults = [f"{node.lineno}: kept, not walked" for node in all_of(tree, ast.Call) if is_walk(node) and node not in walked]
+    faults = [f"{node.lineno}: kept, not walked" for node in all_of(tree,
+                                                                    ast.Call) if is_walk(node) and node not in walked]
     for node in all_of(tree, ast.Call):
         if isinstance(node.func, ast.Name) and node.func.id in vars(builtins):
             wrong = [word.arg for word in node.keywords if word.arg not in KEYWORDS.get(node.func.id, [])]
@@ -186,7 +187,8 @@ def faults_of_sets(tree):
         places += node.args if isinstance(node.func, ast.Name) and node.func.id in ("sorted", "len") else []
     for node in all_of(tree, ast.BinOp):
         places += [node.left, node.right] if node in places else []
-    made = [node for node in all_of(tree, ast.Call) if isinstance(node.func, ast.Name) and node.func.id in ("set", "frozenset")]
+    made = [node for node in all_of(tree, ast.Call) if isinstance(node.func, ast.Name) and node.func.id in ("set",
+                                                                                                            "frozenset")]
     return [f"{node.lineno}: a set that is kept" for node in made + all_of(tree, ast.Set) if node not in places]
 
 
@@ -216,7 +218,8 @@ def faults_of_loops(tree):
         over = node.iter
         if is_walk(over):
             over = over.args[0] if isinstance(over.func, ast.Name) else over.func.value
-        faults += [f"{line}: what is walked is changed" for line, changed in changes_in(node) if changed == ast.dump(over)]
+        faults += [f"{line}: what is walked is changed" for line,
+                   changed in changes_in(node) if changed == ast.dump(over)]
     return faults
 
 
@@ -306,23 +309,31 @@ class LanguageTest(unittest.TestCase):
 
     def test_what_is_outside_the_language_is_seen(self):
         outside = [
-            "import os\n", "from os import path\n", "from whyfacts.words import *\n", "from whyfacts.words import nothing\n",
+            "import os\n", "from os import path\n", "from whyfacts.words import *\n",
+            "from whyfacts.words import nothing\n",
             "print(1)\n", "x = 1\nx = 2\n", "x = y = 1\n", "x = 1.5\n", "x = b'a'\n", "x = '%'\n", "x = 1 / 2\n",
             "_x = 1\n", "def f(*a):\n    pass\n", "def f(a, *, b):\n    pass\n", "def f(len):\n    pass\n",
-            "def f(a):\n    assert a\n", "def f(a):\n    del a\n", "def f(a):\n    yield a\n", "def f(a):\n    return hash(a)\n",
-            "def f(a):\n    return a is a\n", "def f(a):\n    return a.title()\n", "def f(a):\n    return any(b for b in a)\n",
+            "def f(a):\n    assert a\n", "def f(a):\n    del a\n", "def f(a):\n    yield a\n",
+            "def f(a):\n    return hash(a)\n",
+            "def f(a):\n    return a is a\n", "def f(a):\n    return a.title()\n",
+            "def f(a):\n    return any(b for b in a)\n",
             "def f(a):\n    return {b: b for b in a}\n", "def f(a):\n    return [c for b in a for c in b]\n",
             "def f(a):\n    for b in a:\n        pass\n    else:\n        pass\n", "def f():\n    pass\n" + "\n" * 400,
             "def f():\n" + "    pass\n" * 40, "# " + "a" * 119 + "\n", "# the type of it\n", "# a\ttab\n", "# \xe9\n",
             "x = 1 + 2\n", "x = {1: [1]}\n", "x = [[1]]\n", "def f(a):\n    a\n", "def f(a):\n    'said'\n",
             "def f(a: int):\n    return a\n", "def f(a):\n    return f'{a[0]}'\n", "def f(a):\n    return f'{a:5}'\n",
-            "def f(a):\n    return 2 ** a\n", "def f(a):\n    b = zip(a, a)\n    return b\n", "def f(a):\n    return a.items()\n",
+            "def f(a):\n    return 2 ** a\n", "def f(a):\n    b = zip(a, a)\n    return b\n",
+            "def f(a):\n    return a.items()\n",
             "def f(a):\n    b = set(a)\n    return b\n", "def f(a):\n    for b in set(a):\n        pass\n",
             "def f(a):\n    try:\n        a()\n    except ValueError:\n        pass\n", "def f(a):\n    raise a\n",
-            "def f(a):\n    for b in a:\n        a.append(b)\n", "def f(a):\n    for b in a.items():\n        a[b] = b\n",
-            "def f(a):\n    for b, c in enumerate(a):\n        a[b] = c\n", "def f(a):\n    return sorted(a, reverse=True, key2=1)\n",
-            "from whyfacts.words import is_free\n\n\ndef f(is_free):\n    return is_free\n", "def f(a):\n    a.keys = 1\n",
-            "class A:\n    x = 1\n", "class A(ValueError, KeyError):\n    pass\n", "def f(a):\n    with a:\n        pass\n",
+            "def f(a):\n    for b in a:\n        a.append(b)\n",
+            "def f(a):\n    for b in a.items():\n        a[b] = b\n",
+            "def f(a):\n    for b, c in enumerate(a):\n        a[b] = c\n",
+            "def f(a):\n    return sorted(a, reverse=True, key2=1)\n",
+            "from whyfacts.words import is_free\n\n\ndef f(is_free):\n    return is_free\n",
+            "def f(a):\n    a.keys = 1\n",
+            "class A:\n    x = 1\n", "class A(ValueError, KeyError):\n    pass\n",
+            "def f(a):\n    with a:\n        pass\n",
         ]
         for text in outside:
             with self.subTest(text):

@@ -84,17 +84,20 @@ class Layers(unittest.TestCase):
             layers = {name: place for place, name in enumerate(names)}
             self.check(" ".join(rows), layers, [[]] + [[number] for number in range(20)])
             self.check(" ".join(reversed(rows)), layers, [[]] + [[number] for number in reversed(range(20))])
-        self.check(" ".join(f"{head} if {name}." for name, head in zip(names, names[1:])), dict.fromkeys(names, 0), [list(range(20))])
+        self.check(" ".join(f"{head} if {name}." for name, head in zip(names, names[1:])), dict.fromkeys(names, 0),
+                   [list(range(20))])
 
     def test_several_rules_of_one_head(self):
-        self.check("p if q. p if r. p if s. q if not s. r if not q.", {"p": 2, "q": 1, "r": 2, "s": 0}, [[], [3], [0, 1, 2, 4]])
+        self.check("p if q. p if r. p if s. q if not s. r if not q.", {"p": 2, "q": 1, "r": 2, "s": 0},
+                   [[], [3], [0, 1, 2, 4]])
 
     def test_layers_without_a_rule(self):
         self.check("p if not q.", {"p": 1, "q": 0}, [[], [0]])
         self.check("a if not z. c if not b. b if N is count: a.", {"z": 0, "a": 1, "b": 2, "c": 3}, [[], [0], [2], [1]])
 
     def test_numbers_of_a_layer_rise(self):
-        self.check("p if q. a if not q. r if q. b if not q. p if r.", {"p": 0, "q": 0, "r": 0, "a": 1, "b": 1}, [[0, 2, 4], [1, 3]])
+        self.check("p if q. a if not q. r if q. b if not q. p if r.", {"p": 0, "q": 0, "r": 0, "a": 1, "b": 1},
+                   [[0, 2, 4], [1, 3]])
 
     def test_each_number_is_the_least_one(self):
         rng = random.Random(13)
@@ -163,7 +166,8 @@ class Rings(unittest.TestCase):
         self.check(" ".join(rows) + " t if not a.", ["t"] + names[:-1])
 
     def test_none(self):
-        for text in ["", "p if p.", "p if q. q if p.", "p if q. q if r. r if p. s if not p.", "p if not q. p if not r. r if not q.",
+        for text in ["", "p if p.", "p if q. q if p.", "p if q. q if r. r if p. s if not p.",
+                     "p if not q. p if not r. r if not q.",
                      "p(p) if not q(p).", "p if same(p, p)."]:
             with self.subTest(text):
                 self.assertIs(ring_of(rules_in(text)), None)

@@ -11,7 +11,8 @@ def leans_in(text):
 
 class Leans(unittest.TestCase):
     def test_of_a_has_and_a_not(self):
-        self.assertEqual(leans_in("way(X, Y) if road(X, Y), not shut(X)."), [("way", "road", False), ("way", "shut", True)])
+        self.assertEqual(leans_in("way(X, Y) if road(X, Y), not shut(X)."),
+                         [("way", "road", False), ("way", "shut", True)])
 
     def test_of_a_gather(self):
         self.assertEqual(leans_in("load(T) if T is sum W: road(X, W), not shut(X), less(W, 5)."),
@@ -45,12 +46,14 @@ class Leans(unittest.TestCase):
                 self.assertEqual(leans_in(text), strict)
 
     def test_strictly_where_one_of_several_rules_makes_it_so(self):
-        for text in ["p if q. p if not q.", "p if not q. p if q.", "p if q. p if N is count: q. p if q.", "p if N is count: q. p if q."]:
+        for text in ["p if q. p if not q.", "p if not q. p if q.", "p if q. p if N is count: q. p if q.",
+                     "p if N is count: q. p if q."]:
             with self.subTest(text):
                 self.assertEqual(leans_in(text), [("p", "q", True)])
 
     def test_strictness_is_the_pairs_own(self):
-        self.assertEqual(leans_in("p if not q. r if q. p if r."), [("p", "q", True), ("p", "r", False), ("r", "q", False)])
+        self.assertEqual(leans_in("p if not q. r if q. p if r."), [("p", "q", True), ("p", "r", False),
+                                                                   ("r", "q", False)])
 
     def test_on_itself(self):
         self.assertEqual(leans_in("p if p."), [("p", "p", False)])

@@ -38,7 +38,8 @@ class Mending(MendingTest):
         store = store_with("x.")
         self.assertEqual(self.mended(store, [], told="p(a). p(2). z. p. p(-1). a. a."),
                          ([], [("a",), ("p",), ("p", -1), ("p", 2), ("p", "a"), ("z",)]))
-        self.assertEqual(whole(store)[1:], [(("a",), TOLD, 1), (("p",), TOLD, 2), (("p", -1), TOLD, 3), (("p", 2), TOLD, 4),
+        self.assertEqual(whole(store)[1:], [(("a",), TOLD, 1), (("p",), TOLD, 2), (("p", -1), TOLD, 3),
+                                            (("p", 2), TOLD, 4),
                                             (("p", "a"), TOLD, 5), (("z",), TOLD, 6)])
 
     def test_told_ones_that_are_held_keep_their_reason(self):
@@ -50,7 +51,8 @@ class Mending(MendingTest):
     def test_what_follows_comes_in_order(self):
         store = store_with("d.")
         self.assertEqual(self.mended(store, [3, 4, 5], told="zz. a."), ([], [("a",), ("b",), ("c",), ("zz",)]))
-        self.assertEqual(whole(store), [(("d",), TOLD, 0), (("a",), TOLD, 1), (("zz",), TOLD, 2), (("b",), by(3, has("a")), 3),
+        self.assertEqual(whole(store), [(("d",), TOLD, 0), (("a",), TOLD, 1), (("zz",), TOLD, 2),
+                                        (("b",), by(3, has("a")), 3),
                                         (("c",), by(4, has("b")), 4)])
 
     def test_what_is_broken_is_dropped(self):
@@ -63,9 +65,11 @@ class Mending(MendingTest):
         self.assertEqual(self.mended(store, [], untold="a. m. z."), ([("z",), ("m",), ("a",)], []))
 
     def test_what_is_dropped_and_held_anew(self):
-        store = store_of((("a",), TOLD), (("d",), TOLD), (("b",), by(3, has("a"))), (("c",), by(4, has("b"))), (("x",), TOLD))
+        store = store_of((("a",), TOLD), (("d",), TOLD), (("b",), by(3, has("a"))), (("c",), by(4, has("b"))),
+                         (("x",), TOLD))
         self.assertEqual(self.mended(store, [3, 4, 5], untold="a."), ([("a",), ("b",), ("c",)], []))
-        self.assertEqual(whole(store), [(("d",), TOLD, 1), (("x",), TOLD, 4), (("b",), by(5, has("d")), 5), (("c",), by(4, has("b")), 6)])
+        self.assertEqual(whole(store), [(("d",), TOLD, 1), (("x",), TOLD, 4), (("b",), by(5, has("d")), 5),
+                                        (("c",), by(4, has("b")), 6)])
 
     def test_a_told_one_whose_reason_breaks_is_held_as_told(self):
         store = store_of((("a",), TOLD), (("b",), by(3, has("a"))), (("c",), by(4, has("b"))))
@@ -82,11 +86,14 @@ class Mending(MendingTest):
                          (("way", "a", "b"), by(0, has("road", "a", "b"), ("not", ("shut", "a")))))
         store.drop(("shut", "c"))
         store.hold(("shut", "a"), TOLD)
-        self.assertEqual(self.mended(store, [0, 1], gone="shut(c).", came="shut(a)."), ([("way", "a", "b")], [("way", "c", "d")]))
-        self.assertEqual(whole(store)[3:], [(("way", "c", "d"), by(0, has("road", "c", "d"), ("not", ("shut", "c"))), 5)])
+        self.assertEqual(self.mended(store, [0, 1], gone="shut(c).", came="shut(a)."),
+                         ([("way", "a", "b")], [("way", "c", "d")]))
+        self.assertEqual(whole(store)[3:], [(("way", "c", "d"), by(0, has("road", "c", "d"), ("not", ("shut", "c"))),
+                                             5)])
 
     def test_facts_of_layers_beneath(self):
-        store = store_of((("road", "b", "c"), TOLD), (("many", 2), of(2, (), (has("road", "a", "b"),), (has("road", "b", "c"),))))
+        store = store_of((("road", "b", "c"), TOLD), (("many", 2),
+                                                      of(2, (), (has("road", "a", "b"),), (has("road", "b", "c"),))))
         self.assertEqual(self.mended(store, [2], gone="road(a, b)."), ([("many", 2)], [("many", 1)]))
         self.assertEqual(whole(store)[1:], [(("many", 1), of(2, (), (has("road", "b", "c"),)), 2)])
         store.hold(("road", "a", "b"), TOLD)

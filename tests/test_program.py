@@ -32,7 +32,8 @@ class Programs(unittest.TestCase):
         self.assertEqual(need_program([]), [])
 
     def test_what_is_no_list_of_rules(self):
-        for rules in [None, (), (WET,), {}, "p if q.", 5, [None], [WET, BAD], [BAD], [WET, "wet if rain."], [RING, BAD]]:
+        for rules in [None, (), (WET,), {}, "p if q.", 5, [None], [WET, BAD], [BAD], [WET, "wet if rain."],
+                      [RING, BAD]]:
             self.check(rules, BadRule)
         for place, thing in enumerate(odd_things()):
             with self.subTest(place):

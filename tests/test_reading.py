@@ -97,7 +97,8 @@ class Rules(ReadingTest):
         self.check_body("not shut.", (("not", ("shut",)),))
         self.check_body("way(a, X), not shut(X).", (("has", ("way", "a", "X")), ("not", ("shut", "X"))))
         self.check_body("p(a, 1), not q, less(a, -5), same(1, b), plus(1, 2, a), r.", (
-            ("has", ("p", "a", 1)), ("not", ("q",)), ("less", "a", -5), ("same", 1, "b"), ("plus", 1, 2, "a"), ("has", ("r",))))
+            ("has", ("p", "a", 1)), ("not", ("q",)), ("less", "a", -5), ("same", 1, "b"), ("plus", 1, 2, "a"),
+            ("has", ("r",))))
 
     def test_lengths_of_bodies(self):
         self.check_body("p.", (("has", ("p",)),))
@@ -106,14 +107,17 @@ class Rules(ReadingTest):
         self.refuse_body("p, p, p, p, p, p, p.", "less(1, 2), p, p, p, p, p, not p.", ".", "", " ")
 
     def test_tests_with_other_numbers_of_terms(self):
-        for bad in ["less(X)", "less(X, Y, Z)", "same(X)", "same(X, Y, Z)", "plus(X, Y)", "plus(X, Y, Z, W)", "less", "same",
+        for bad in ["less(X)", "less(X, Y, Z)", "same(X)", "same(X, Y, Z)", "plus(X, Y)", "plus(X, Y, Z, W)", "less",
+                    "same",
                     "plus", "less()", "less(1, 2, 3, 4, 5)", "plus(1)"]:
             self.refuse(f"p if {bad}.")
             self.refuse_body(f"{bad}.", f"p, {bad}.")
 
     def test_parts_of_another_form(self):
-        for bad in ["has p", "has(p)", "not", "not not p", "not less(1, 2)", "not same(1, 1)", "not plus(1, 1, 2)", "not X",
-                    "X", "5", "p q", "p(a) q", "p: q", "p is q", "p by X", "p if q", "(p)", "not(p)", "p + q", "? p", "- p"]:
+        for bad in ["has p", "has(p)", "not", "not not p", "not less(1, 2)", "not same(1, 1)", "not plus(1, 1, 2)",
+                    "not X",
+                    "X", "5", "p q", "p(a) q", "p: q", "p is q", "p by X", "p if q", "(p)", "not(p)", "p + q", "? p",
+                    "- p"]:
             self.refuse(f"p if {bad}.")
             self.refuse_body(f"{bad}.", f"p, {bad}.", f"{bad}, p.")
 
@@ -133,10 +137,12 @@ class Gathers(ReadingTest):
     def test_each_kind_with_none_to_three_keys(self):
         body = "p(A, B, C, W), less(A, B)"
         parts = (("has", ("p", "A", "B", "C", "W")), ("less", "A", "B"))
-        for kind, shown, value in [("count", "count", ""), ("sum", "sum W", "W"), ("least", "least W", "W"), ("most", "most W", "W")]:
+        for kind, shown, value in [("count", "count", ""), ("sum", "sum W", "W"), ("least", "least W", "W"),
+                                   ("most", "most W", "W")]:
             for keys in [(), ("A",), ("B", "A"), ("C", "A", "B")]:
                 by = " by " + ", ".join(keys) if keys else ""
-                self.check_rule(f"g(N) if N is {shown}{by}: {body}.", ("gather", ("g", "N"), kind, "N", value, keys, parts))
+                self.check_rule(f"g(N) if N is {shown}{by}: {body}.",
+                                ("gather", ("g", "N"), kind, "N", value, keys, parts))
 
     def test_keys(self):
         self.refuse("g if N is count by A, B, C, D: p(A, B, C, D).", "g if N is count by A, A: p(A).",
@@ -146,24 +152,35 @@ class Gathers(ReadingTest):
 
     def test_values(self):
         self.refuse("g if N is count W: p(W).", "g if N is count W by X: p(W, X).", "g if N is sum: p(W).",
-                    "g if N is sum by W: p(W).", "g if N is least: p(W).", "g if N is most by W: p(W).", "g if N is sum w: p(w).",
+                    "g if N is sum by W: p(W).", "g if N is least: p(W).", "g if N is most by W: p(W).",
+                    "g if N is sum w: p(w).",
                     "g if N is sum 5: p(5).", "g if N is sum W, V: p(W, V).", "g if N is sum W V: p(W, V).")
 
     def test_the_result_in_the_body(self):
-        self.refuse("g(N) if N is count: p(N).", "g(N) if N is sum W: p(W), not q(N).", "g if N is most W: p(W), less(1, N).",
+        self.refuse("g(N) if N is count: p(N).", "g(N) if N is sum W: p(W), not q(N).",
+                    "g if N is most W: p(W), less(1, N).",
                     "g if N is count: plus(1, 2, N).", "g if N is count by N: p(N).")
-        self.check_rule("g(N) if N is count by N: p(X).", ("gather", ("g", "N"), "count", "N", "", ("N",), (("has", ("p", "X")),)))
-        self.check_rule("g(N) if N is sum N: p(n).", ("gather", ("g", "N"), "sum", "N", "N", (), (("has", ("p", "n")),)))
+        self.check_rule("g(N) if N is count by N: p(X).", ("gather", ("g", "N"), "count", "N", "", ("N",),
+                                                           (("has", ("p", "X")),)))
+        self.check_rule("g(N) if N is sum N: p(n).", ("gather", ("g", "N"), "sum", "N", "N", (),
+                                                      (("has", ("p", "n")),)))
 
     def test_other_forms(self):
-        self.refuse("g if N is: p.", "g if N: p.", "g if N count: p.", "g if is count: p.", "g if n is count: p.", "g if 5 is count: p.",
-                    "g if N is count p.", "g if N is count.", "g if N is count:.", "g if N is count: .", "g if N is many: p.",
-                    "g if N is Count: p.", "g if N is count, p.", "g if N is has: p.", "g if N is 5: p.", "g if N is .", "g if N.",
-                    "N is count: p.", "g if p, N is count: q.", "g if N is count: p: q.", "g if N is count: M is count: q.")
+        self.refuse("g if N is: p.", "g if N: p.", "g if N count: p.", "g if is count: p.", "g if n is count: p.",
+                    "g if 5 is count: p.",
+                    "g if N is count p.", "g if N is count.", "g if N is count:.", "g if N is count: .",
+                    "g if N is many: p.",
+                    "g if N is many W: p(W).", "g if N is has W by W: p(W).", "g if N is X W: p(W).",
+                    "g if N is - W: p(W).",
+                    "g if N is Count: p.", "g if N is count, p.", "g if N is has: p.", "g if N is 5: p.", "g if N is .",
+                    "g if N.",
+                    "N is count: p.", "g if p, N is count: q.", "g if N is count: p: q.",
+                    "g if N is count: M is count: q.")
         self.refuse_body("N is count: p.")
 
     def test_words_that_are_unbound_are_no_matter_of_reading(self):
-        self.check_rule("g(Z) if N is sum W by X: p.", ("gather", ("g", "Z"), "sum", "N", "W", ("X",), (("has", ("p",)),)))
+        self.check_rule("g(Z) if N is sum W by X: p.", ("gather", ("g", "Z"), "sum", "N", "W", ("X",),
+                                                        (("has", ("p",)),)))
 
 
 class Programs(ReadingTest):
@@ -179,22 +196,28 @@ class Programs(ReadingTest):
         self.check("b. a. b(1). a(2).", [], [("b",), ("a",), ("b", 1), ("a", 2)])
 
     def test_points(self):
-        self.refuse("rain", "rain. sun", "rain sun.", "rain..", ".", ". rain.", "rain. . sun.", "wet if rain", "wet if rain..",
+        self.refuse("rain", "rain. sun", "rain sun.", "rain..", ".", ". rain.", "rain. . sun.", "wet if rain",
+                    "wet if rain..",
                     "wet if rain. rain", "wet. if rain.", "rain, sun.", "rain; sun.", "many(N) if N is count: p")
         self.refuse_fact("rain", "rain..", ". rain.", ".")
 
     def test_brackets_and_commas(self):
-        self.refuse("p().", "p( ).", "p(.", "p).", "p(a.", "p a).", "p(a,).", "p(,a).", "p(a,,b).", "p(,).", "p(a b).", "p((a)).",
-                    "p(a)(b).", "(a).", "p(a, b)).", "p(a(b)).", "p(a: b).", "p(a. b).", "h if p,.", "h if ,p.", "h if p,,q.",
-                    "h if p q.", "h if p(.", "h() if p.", "h if p().", "h if less(,).", "h if less(1,).", "h if not p().")
+        self.refuse("p().", "p( ).", "p(.", "p).", "p(a.", "p a).", "p(a,).", "p(,a).", "p(a,,b).", "p(,).", "p(a b).",
+                    "p((a)).",
+                    "p(a)(b).", "(a).", "p(a, b)).", "p(a(b)).", "p(a: b).", "p(a. b).", "h if p,.", "h if ,p.",
+                    "h if p,,q.",
+                    "h if p q.", "h if p(.", "h() if p.", "h if p().", "h if less(,).", "h if less(1,).",
+                    "h if not p().")
 
     def test_heads(self):
-        self.refuse("X if p.", "5 if p.", "not p if q.", "not p.", "less(1, 2).", "less(1, 2) if p.", "same(1, 1).", "plus(1, 1, 2).",
+        self.refuse("X if p.", "5 if p.", "not p if q.", "not p.", "less(1, 2).", "less(1, 2) if p.", "same(1, 1).",
+                    "plus(1, 1, 2).",
                     "p, q if r.", "if p.", "p if if q.", "p if q if r.", "-5.", "- p.", "+ p.", "? p.", "p?")
 
     def test_kept_words_where_a_name_should_stand(self):
         for word in KEPT_WORDS:
-            self.refuse(f"{word}.", f"{word}(a).", f"{word} if p.", f"{word}(X) if p(X).", f"p if {word}.", f"p if not {word}.",
+            self.refuse(f"{word}.", f"{word}(a).", f"{word} if p.", f"{word}(X) if p(X).", f"p if {word}.",
+                        f"p if not {word}.",
                         f"p if not {word}(a).", f"{word}(X) if N is count by X: p(X).", f"p if N is count: {word}.")
             self.refuse_fact(f"{word}.", f"{word}(a, b).")
             self.refuse_body(f"{word}.", f"not {word}(a).")
@@ -207,8 +230,10 @@ class Programs(ReadingTest):
             self.refuse_body(f"p({word}).", f"same(a, {word}).")
 
     def test_blanks_and_line_ends_between_any_two_pieces(self):
-        pieces = ["load", "(", "X", ",", "T", ")", "if", "T", "is", "sum", "W", "by", "X", ",", "Y", ":", "road", "(", "X", ",", "Y",
-                  ",", "W", ")", ",", "not", "shut", "(", "X", ",", "-5", ")", ",", "less", "(", "W", ",", "9", ")", ".", "rain", "."]
+        pieces = ["load", "(", "X", ",", "T", ")", "if", "T", "is", "sum", "W", "by", "X", ",", "Y", ":", "road", "(",
+                  "X", ",", "Y",
+                  ",", "W", ")", ",", "not", "shut", "(", "X", ",", "-5", ")", ",", "less", "(", "W", ",", "9", ")",
+                  ".", "rain", "."]
         rule = ("gather", ("load", "X", "T"), "sum", "T", "W", ("X", "Y"),
                 (("has", ("road", "X", "Y", "W")), ("not", ("shut", "X", -5)), ("less", "W", 9)))
         for gap in [" ", "\n", "   ", "\n\n", " \n "]:
@@ -216,15 +241,28 @@ class Programs(ReadingTest):
             self.check(gap + gap.join(pieces) + gap, [rule], [("rain",)])
         self.check("load(X,T)if T is sum W by X,Y:road(X,Y,W),not shut(X,-5),less(W,9).rain.", [rule], [("rain",)])
 
+    def test_texts_that_end_too_early(self):
+        for text in ["load ( X , T ) if T is sum W by X , Y : road ( X , Y , W ) , not shut ( X , -5 ) , less ( W , 9 ) .",
+                     "wet if rain .", "road ( a , b ) .", "p if plus ( 1 , X , Y ) , not q ."]:
+            pieces = text.split()
+            for many in range(1, len(pieces)):
+                self.refuse(" ".join(pieces[:many]))
+                self.refuse_fact(" ".join(pieces[:many]))
+                self.refuse_body(" ".join(pieces[:many]))
+            self.assertIs(refusal_of(read_program, text), None)
+
     def test_a_blank_is_needed_between_words(self):
-        self.refuse("wetif rain.", "h if N iscount: p.", "h if Nis count: p.", "h if N is sumW: p(W).", "h if N is sum Wby X: p(W, X).")
+        self.refuse("wetif rain.", "h if N iscount: p.", "h if Nis count: p.", "h if N is sumW: p(W).",
+                    "h if N is sum Wby X: p(W, X).")
         self.check_body("notshut.", (("has", ("notshut",)),))
-        self.check("wet ifrain.rain.".replace("ifrain", "if rain"), [("rule", ("wet",), (("has", ("rain",)),))], [("rain",)])
+        self.check("wet ifrain.rain.".replace("ifrain", "if rain"), [("rule", ("wet",), (("has", ("rain",)),))],
+                   [("rain",)])
         self.refuse("wet ifrain.")
 
     def test_signs_and_runs(self):
         self.refuse("road(a,\tb).", "rain.\r\n", "# rain\nrain.", "rain. % more", "road(a1).", "road(05).", "road(-0).",
-                    "abcdefghi.", "p(Abcdefghi) if q.", "p(1234567890).", "p('a').", "p(_).", "p(1.5).", "p(AB) if q(AB).")
+                    "abcdefghi.", "p(Abcdefghi) if q.", "p(1234567890).", "p('a').", "p(_).", "p(1.5).",
+                    "p(AB) if q(AB).")
 
     def test_what_is_no_text(self):
         things = [None, True, 5, [], ["rain."], ("rain", "."), {}, b"rain.", ("rain",)] + odd_things()
@@ -244,12 +282,14 @@ class Programs(ReadingTest):
 
 class FactsAndBodies(ReadingTest):
     def test_one_fact_alone(self):
-        self.refuse_fact("", " ", "\n", "rain", "rain. sun.", "rain. rain.", "rain, sun.", "wet if rain.", "rain. wet if rain.",
+        self.refuse_fact("", " ", "\n", "rain", "rain. sun.", "rain. rain.", "rain, sun.", "wet if rain.",
+                         "rain. wet if rain.",
                          "not rain.", "less(1, 2).", "rain. .", "rain.a", "?rain.", "+ rain.", "N is count: p.")
         self.assertEqual(read_fact("\n road ( a ,\n b ) . \n"), ("road", "a", "b"))
 
     def test_one_body_alone(self):
-        self.refuse_body("", " ", "\n", "p", "p. q.", "p. p.", "p, q", "p if q.", "p, q if r.", "p. .", "p.q", "?p.", "p, .", "if p.")
+        self.refuse_body("", " ", "\n", "p", "p. q.", "p. p.", "p, q", "p if q.", "p, q if r.", "p. .", "p.q", "?p.",
+                         "p, .", "if p.")
         self.assertEqual(read_body(" p ,\nnot q\n( X ) .\n"), (("has", ("p",)), ("not", ("q", "X"))))
 
     def test_a_body_is_a_tuple_of_tuples(self):

@@ -27,7 +27,8 @@ class Readme(unittest.TestCase):
         desk, tuples = [block[len("python"):] for block in blocks if block.startswith("python")]
         self.assertEqual(told_by(desk), [
             ["X = b", "X = c"],
-            ["1 road(a, b): told", "2 road(b, c): told", "3 way(a, b): by 0 from 1, not shut(a)", "4 way(a, c): by 1 from 3, 2"],
+            ["1 road(a, b): told", "2 road(b, c): told", "3 way(a, b): by 0 from 1, not shut(a)",
+             "4 way(a, c): by 1 from 3, 2"],
             ["+ many(2).", "+ shut(b).", "- many(3).", "- way(b, c)."],
             ["nothing"]])
         self.assertEqual(told_by(tuples), [

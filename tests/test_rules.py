@@ -63,7 +63,8 @@ class GoodRules(RulesTest):
 
     def test_plain_rules(self):
         self.check_each([
-            ("rule", ("p",), (RAIN,)), ("rule", ("p",), (RAIN,) * 6), ("rule", ("p", 1, "a", -5, "b"), (("not", ("q",)),)),
+            ("rule", ("p",), (RAIN,)), ("rule", ("p",), (RAIN,) * 6),
+            ("rule", ("p", 1, "a", -5, "b"), (("not", ("q",)),)),
             ("rule", ("p", "X", "X"), (ROAD,)), ("rule", ("p", "W", "Y", "X"), (ROAD,)),
             ("rule", ("p", "Z"), (ROAD, ("plus", "W", 1, "Z"))), ("rule", ("p", "Z"), (("plus", 1, 2, "Z"),)),
             ("rule", ("p", "X"), (("has", ("p", "X")),)), ("rule", ("p",), (("not", ("p",)),)),
@@ -90,7 +91,8 @@ class GoodRules(RulesTest):
 
 class NoRules(RulesTest):
     def test_what_is_no_list(self):
-        for rules in [(), (WET,), (WET, WAY), WET, {}, {0: WET}, "", "rules", 5, range(2), iter([WET]), {WET}, (WET,) * 21]:
+        for rules in [(), (WET,), (WET, WAY), WET, {}, {0: WET}, "", "rules", 5, range(2), iter([WET]), {WET},
+                      (WET,) * 21]:
             self.check(rules, BadRule)
 
     def test_things_of_any_kind(self):
@@ -115,7 +117,8 @@ class NoRules(RulesTest):
     def test_words_ahead_and_lengths(self):
         self.check_each([
             (), ("rule",), ("gather",), WET[:2], WET + ((),), WET + (RAIN,), LOAD[:3], LOAD[:6], LOAD + ((),),
-            LOAD + ((ROAD,),), ("gather",) + WET[1:], ("rule",) + LOAD[1:], changed(WET, 0, "Rule"), changed(WET, 0, ""),
+            LOAD + ((ROAD,),), ("gather",) + WET[1:], ("rule",) + LOAD[1:], changed(WET, 0, "Rule"),
+            changed(WET, 0, ""),
             changed(WET, 0, None), changed(WET, 0, "rules"), changed(LOAD, 0, "gathers"), changed(LOAD, 0, "sum"),
             list(WET), list(LOAD), "rule", ("wet",), RAIN, (WET,), [WET],
         ], BadRule)
@@ -156,13 +159,15 @@ class NoRules(RulesTest):
         for keys in [(), ("A",), ("B", "A"), ("A", "B", "C"), ("D", "C", "A")]:
             self.check([gather(keys=keys, body=body)], None)
         spoilt = [("A", "B", "C", "D"), ("A", "A"), ("A", "B", "A"), ("A", "B", "B"), ("A", "A", "B"), ("A",) * 4,
-                  ["A"], [], "A", "", None, {}, {"A": 1}, ("a",), (1,), ("",), ("A", ""), ("A", None), (["A"],), (("A",),),
+                  ["A"], [], "A", "", None, {}, {"A": 1}, ("a",), (1,), ("",), ("A", ""), ("A", None), (["A"],),
+                  (("A",),),
                   ("A", "B", 1), ("AB",), ("A", "A ")]
         self.check_each([gather(keys=keys, body=body) for keys in spoilt], BadRule)
 
     def test_the_result_in_the_body(self):
         self.check_each([
-            gather(result="X", head=("g", "X")), gather(result="W", head=("g",)), gather("sum", "W", result="W", head=("g",)),
+            gather(result="X", head=("g", "X")), gather(result="W", head=("g",)),
+            gather("sum", "W", result="W", head=("g",)),
             gather("sum", "W", ("X",), result="X", head=("g", "X")), gather(result="Y", keys=("Y",), head=("g", "Y")),
             gather(body=(ROAD, ("plus", 1, 2, "N"))), gather(body=(ROAD, ("has", ("p", 1, "N")))),
             gather(body=(ROAD, ("has", ("p", "N")), ("not", ("q", "N")))),
@@ -171,7 +176,8 @@ class NoRules(RulesTest):
 
 class UnboundWords(RulesTest):
     def test_in_a_body(self):
-        bodies = [(("not", ("q", "X")),), (("less", "X", 1),), (("less", 1, "X"),), (("same", 1, "X"),), (("same", "X", 1),),
+        bodies = [(("not", ("q", "X")),), (("less", "X", 1),), (("less", 1, "X"),), (("same", 1, "X"),),
+                  (("same", "X", 1),),
                   (("plus", "X", 1, 2),), (("plus", 1, "X", 2),), (("not", ("q", "X")), ROAD), (ROAD, ("less", "Z", 1))]
         self.check_each([("rule", ("p",), body) for body in bodies], Unbound)
         self.check_each([gather(body=body) for body in bodies], Unbound)
@@ -191,7 +197,8 @@ class UnboundWords(RulesTest):
         self.check_each([gather(kind, "N") for kind in ("sum", "least", "most")], Unbound)
 
     def test_in_keys(self):
-        self.check_each([gather(keys=keys) for keys in [("Z",), ("X", "Z"), ("Z", "X"), ("X", "Y", "Z"), ("N",), ("X", "N")]],
+        self.check_each([gather(keys=keys) for keys in [("Z",), ("X", "Z"), ("Z", "X"), ("X", "Y", "Z"), ("N",),
+                                                        ("X", "N")]],
                         Unbound)
 
 
@@ -242,7 +249,8 @@ class OrderOfRefusals(RulesTest):
         self.check([MANY, ("rule", ("many", 1, 2), (RAIN,))], BadWidth)
 
     def test_values_written_like_names_have_no_width(self):
-        self.check([WET, ("rule", ("dry", "wet", "rain"), (("not", ("dry", "wet", "wet")), ("same", "wet", "dry")))], None)
+        self.check([WET, ("rule", ("dry", "wet", "rain"), (("not", ("dry", "wet", "wet")), ("same", "wet", "dry")))],
+                   None)
         self.check([("gather", ("g", "g", "N"), "count", "N", "", (), (("has", ("p", "g")), ("less", "p", "g")))], None)
 
 

@@ -7,7 +7,8 @@ from whyfacts.signs import pieces_of
 MARKS = "( ) , . : ? + -".split()
 KEPT_WORDS = "has not less same plus if by is count sum least most why".split()
 NO_SIGNS = [chr(number) for number in range(32) if chr(number) != "\n"]
-NO_SIGNS += [chr(127), chr(128), chr(133), chr(160), "\xe9", "\xb2", "\u0660", "\u2028", "\u3000", "\ud800", "\U0001d7d8", "%"]
+NO_SIGNS += [chr(127), chr(128), chr(133), chr(160), "\xe9", "\xb2", "\u0660", "\u2028", "\u3000", "\ud800",
+             "\U0001d7d8", "%"]
 NO_PIECES = list("!\"#$&'*/;<=>@[\\]^_`{|}~")
 
 
@@ -47,7 +48,8 @@ class Pieces(SignsTest):
         self.check("Xyz", [free("Xyz")])
         self.check("15", [number("15")])
         self.check("-15", [number("-15")])
-        self.check("road(a, X, -5).", [word("road"), mark("("), word("a"), mark(","), free("X"), mark(","), number("-5"),
+        self.check("road(a, X, -5).", [word("road"), mark("("), word("a"), mark(","), free("X"), mark(","),
+                                       number("-5"),
                                        mark(")"), mark(".")])
         self.check("load(X, T) if T is sum W by X: p.", [
             word("load"), mark("("), free("X"), mark(","), free("T"), mark(")"), word("if"), free("T"), word("is"),
@@ -70,22 +72,26 @@ class Pieces(SignsTest):
         self.check("abcdefgh", [word("abcdefgh")])
         self.check("Abcdefgh", [free("Abcdefgh")])
         self.check("zzzzzzzz Zzzzzzzz", [word("zzzzzzzz"), free("Zzzzzzzz")])
-        for text in ["abcdefghi", "Abcdefghi", "a" * 1000, "A" + "a" * 1000, "a abcdefghi", "abcdefghi a", "(abcdefghi)"]:
+        for text in ["abcdefghi", "Abcdefghi", "a" * 1000, "A" + "a" * 1000, "a abcdefghi", "abcdefghi a",
+                     "(abcdefghi)"]:
             self.refuse(text)
 
     def test_runs_that_are_neither(self):
-        for text in ["aB", "AB", "aBc", "ABc", "AbC", "a5", "5a", "A5", "5A", "a5a", "X1", "roaD", "-5a", "-5A", "5a5", "1X",
+        for text in ["aB", "AB", "aBc", "ABc", "AbC", "a5", "5a", "A5", "5A", "a5a", "X1", "roaD", "-5a", "-5A", "5a5",
+                     "1X",
                      "a 5a", "5a a", "(a5)", "a5.", "1a(", "00a", "-1b2"]:
             self.refuse(text)
 
 
 class Numbers(SignsTest):
     def test_figures(self):
-        for text in ["0", "1", "5", "9", "10", "100", "909", "123456789", "999999999", "-1", "-10", "-999999999", "-123456789"]:
+        for text in ["0", "1", "5", "9", "10", "100", "909", "123456789", "999999999", "-1", "-10", "-999999999",
+                     "-123456789"]:
             self.check(text, [number(text)])
 
     def test_what_is_no_number(self):
-        for text in ["00", "05", "000", "0123", "01", "1234567890", "1000000000", "0000000001", "-0", "-00", "-05", "-01",
+        for text in ["00", "05", "000", "0123", "01", "1234567890", "1000000000", "0000000001", "-0", "-00", "-05",
+                     "-01",
                      "-1234567890", "-1000000000", "5 00", "a-0", "5-0", "--0", "(-0)", "1" * 5000]:
             self.refuse(text)
 
@@ -139,7 +145,8 @@ class Between(SignsTest):
 class Refusals(SignsTest):
     def test_signs_that_are_not_allowed(self):
         for sign in NO_SIGNS:
-            for text in [sign, sign + "a(b).", "a(" + sign + "b).", "a(b)." + sign, "a" + sign + "b", "5" + sign, sign + " "]:
+            for text in [sign, sign + "a(b).", "a(" + sign + "b).", "a(b)." + sign, "a" + sign + "b", "5" + sign,
+                         sign + " "]:
                 self.refuse(text)
 
     def test_signs_that_belong_to_no_piece(self):

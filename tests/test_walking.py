@@ -1,12 +1,10 @@
 import copy
-import random
 import unittest
 
-from helper import TOLD, by, has, held_by_name, held_in, numbers, of, refusal_of, rules_in, some_facts, some_program
+from helper import TOLD, by, has, held_by_name, held_in, numbers, of, refusal_of, rules_in, some_worked
 from whyfacts.errors import TooMany
 from whyfacts.walking import stands
 from whyfacts.whys import rests_on, why_of
-from whyfacts.working import worked
 
 RULES = rules_in("""
     way(X, Y) if road(X, Y), not shut(X).
@@ -93,6 +91,13 @@ class By(StandsTest):
         self.last(("way", "a", "b"), by(0, has(*AB), ("not", ("shut", "a", "b"))), False)
         self.last(("way", "a", "b"), by(0, ("not", ("shut", "a")), has(*AB)), False)
 
+    def test_a_not_in_the_place_of_a_has_and_the_other_way_round(self):
+        self.check([(("way", "a", "b"), by(0, ("not", AB), ("not", ("shut", "a"))))], False, held={})
+        told = [AB, ("shut", "a")]
+        row = [(fact, TOLD) for fact in told] + [(("way", "a", "b"), by(0, has(*AB), has("shut", "a")))]
+        self.check(row, False, told=told, held={})
+        self.check(row[:2] + [WAB], True, told=told, held={})
+
     def test_grounds_too_many_or_too_few(self):
         self.last(("way", "a", "b"), by(0, has(*AB)), False)
         self.last(("way", "a", "b"), by(0), False)
@@ -134,7 +139,8 @@ class By(StandsTest):
         self.check([(("p", 5), by(0, ("less", 5, 5)))], False, rules=rules)
         self.check([(("p", 1000000000), by(1, ("plus", 999999999, 1, 1000000000)))], False, rules=rules)
         self.check([(("p", "a"), by(2, ("same", "a", "a")))], True, rules=rules)
-        self.check([(("q", 1), TOLD), (("p", 1), by(3, ("same", "a", "b"), has("q", 1)))], False, rules=rules, told=[("q", 1)])
+        self.check([(("q", 1), TOLD), (("p", 1), by(3, ("same", "a", "b"), has("q", 1)))], False, rules=rules,
+                   told=[("q", 1)])
 
     def test_numbers_of_rules(self):
         grounds = (has(*AB), ("not", ("shut", "a")))
@@ -147,7 +153,8 @@ class By(StandsTest):
 
     def test_too_many_fills_of_a_plain_rule_are_no_matter(self):
         held = {**numbers("n", 2001)}
-        self.check([(("n", 5), TOLD), (("p",), by(0, has("n", 5)))], True, rules=rules_in("p if n(X)."), told=[("n", 5)], held=held)
+        self.check([(("n", 5), TOLD), (("p",), by(0, has("n", 5)))], True, rules=rules_in("p if n(X)."),
+                   told=[("n", 5)], held=held)
 
 
 class Of(StandsTest):
@@ -219,7 +226,8 @@ class Of(StandsTest):
         self.last(("many", 2), self.MANY, False, held={**HELD, "road": [AB]})
         self.last(("many", 2), self.MANY, False, held={**HELD, "road": [AB, BC, ("road", "c", "d")]})
         self.last(("many", 2), self.MANY, True, held={**HELD, "road": [BC, AB]})
-        self.last(("out", "a", 1), of(3, ("a",), (has(*AB), ("not", ("shut", "b")))), False, held={**HELD, "shut": [("shut", "b")]})
+        self.last(("out", "a", 1), of(3, ("a",), (has(*AB), ("not", ("shut", "b")))), False,
+                  held={**HELD, "shut": [("shut", "b")]})
 
     def test_a_body_of_a_not_or_of_tests(self):
         rules = rules_in("g(N) if N is count: not q. h(N) if N is sum W: plus(1, 2, W).")
@@ -245,7 +253,8 @@ class TooManyFills(unittest.TestCase):
             self.assertIs(refusal_of(stands, row, self.RULES, [("n", 1), ("m", 0)], self.HELD), refusal)
 
     def test_whatever_its_key_values_and_grounds_are(self):
-        for reason in [of(0, (), (has("n", 1),)), of(0, ()), of(0, ("a", 1)), of(0, ("a",), (has("n", 1),)), of(0, (), (("less", 2, 1),))]:
+        for reason in [of(0, (), (has("n", 1),)), of(0, ()), of(0, ("a", 1)), of(0, ("a",), (has("n", 1),)),
+                       of(0, (), (("less", 2, 1),))]:
             self.check([self.ONE, (("g", 1), reason)], TooMany)
             self.check([(("g", 1), reason)], TooMany)
             self.check([(("other",), reason)], TooMany)
@@ -267,14 +276,8 @@ class TooManyFills(unittest.TestCase):
 
 class Whole(unittest.TestCase):
     def test_rows_of_many_programs(self):
-        rng = random.Random(23)
         seen = 0
-        for turn in range(150):
-            rules = some_program(rng)
-            told = some_facts(rng, rng.randint(0, 12))
-            if refusal_of(worked, rules, told) is TooMany:
-                continue
-            store = worked(rules, told)
+        for turn, rules, told, store in some_worked(23, 150):
             held = store.held()
             for fact in store.facts():
                 row = why_of(store, fact)

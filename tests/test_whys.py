@@ -1,9 +1,8 @@
 import copy
-import random
 import unittest
 
-from helper import TOLD, by, has, of, refusal_of, some_facts, some_program, store_of, whole
-from whyfacts.errors import NoFact, TooMany
+from helper import TOLD, by, has, of, refusal_of, some_worked, store_of, whole
+from whyfacts.errors import NoFact
 from whyfacts.reading import read_program
 from whyfacts.whys import height_of, leaves_of, rests_on, why_of
 from whyfacts.working import worked
@@ -39,13 +38,15 @@ class RestsOn(unittest.TestCase):
 
     def test_a_by(self):
         self.check(by(0, has("q", 1)), [("q", 1)])
-        self.check(by(3, has("q", 1), ("not", ("r", 1)), ("less", 1, 2), has("p"), ("same", 1, 1), ("plus", 1, 1, 2)), [("q", 1), ("p",)])
+        self.check(by(3, has("q", 1), ("not", ("r", 1)), ("less", 1, 2), has("p"), ("same", 1, 1), ("plus", 1, 1, 2)),
+                   [("q", 1), ("p",)])
         self.check(by(0, ("not", ("r",)), ("less", 1, 2)), [])
         self.check(by(0, has("b"), has("a"), has("b"), has("b", 1)), [("b",), ("a",), ("b", 1)])
 
     def test_an_of(self):
         self.check(of(0, (), (has("q", 1),), (has("q", 2),)), [("q", 1), ("q", 2)])
-        self.check(of(1, ("a",), (has("z"), ("not", ("r",)), has("q", 2)), (has("z"), ("less", 1, 2), has("q", 1)), (has("q", 2),)),
+        self.check(of(1, ("a",), (has("z"), ("not", ("r",)), has("q", 2)), (has("z"), ("less", 1, 2), has("q", 1)),
+                      (has("q", 2),)),
                    [("z",), ("q", 2), ("q", 1)])
         self.check(of(1, (), (("not", ("r",)),)), [])
 
@@ -69,10 +70,12 @@ class WhyOf(unittest.TestCase):
 
     def test_several_steps_each_once_by_stamps(self):
         store = store_of(
-            (("z",), TOLD), (("x",), TOLD), (("a",), TOLD), (("m",), by(0, has("a"), has("z"))), (("k",), by(1, has("z"), ("not", ("a", 1)))),
+            (("z",), TOLD), (("x",), TOLD), (("a",), TOLD), (("m",), by(0, has("a"), has("z"))),
+            (("k",), by(1, has("z"), ("not", ("a", 1)))),
             (("b",), by(2, has("m"), has("k"), has("z"))), (("c",), by(3, has("x"))))
         self.assertEqual(why_of(store, ("b",)), [
-            (("z",), TOLD), (("a",), TOLD), (("m",), by(0, has("a"), has("z"))), (("k",), by(1, has("z"), ("not", ("a", 1)))),
+            (("z",), TOLD), (("a",), TOLD), (("m",), by(0, has("a"), has("z"))),
+            (("k",), by(1, has("z"), ("not", ("a", 1)))),
             (("b",), by(2, has("m"), has("k"), has("z")))])
         self.assertEqual(why_of(store, ("c",)), [(("x",), TOLD), (("c",), by(3, has("x")))])
         self.assertEqual(why_of(store, ("k",)), [(("z",), TOLD), (("k",), by(1, has("z"), ("not", ("a", 1))))])
@@ -90,7 +93,8 @@ class WhyOf(unittest.TestCase):
         store.drop(("a",))
         store.hold(("a",), by(1, has("b")))
         store.hold(("c",), by(0, has("a"), has("b")))
-        self.assertEqual(why_of(store, ("c",)), [(("b",), TOLD), (("a",), by(1, has("b"))), (("c",), by(0, has("a"), has("b")))])
+        self.assertEqual(why_of(store, ("c",)), [(("b",), TOLD), (("a",), by(1, has("b"))),
+                                                 (("c",), by(0, has("a"), has("b")))])
 
     def test_no_fact(self):
         store = store_of((("a",), TOLD), (("b",), by(0, has("a"))))
@@ -117,18 +121,13 @@ class WhyOf(unittest.TestCase):
         self.assertEqual(kept, again)
 
     def test_over_many_programs(self):
-        rng = random.Random(22)
-        for turn in range(150):
-            rules = some_program(rng)
-            told = some_facts(rng, rng.randint(0, 12))
-            if refusal_of(worked, rules, told) is TooMany:
-                continue
-            store = worked(rules, told)
+        for turn, rules, told, store in some_worked(22, 150):
             for fact in store.facts():
                 with self.subTest((turn, fact)):
                     row = why_of(store, fact)
                     self.assertEqual(row[-1][0], fact)
-                    self.assertEqual([one for one, reason in row], sorted(beneath(store, fact), key=store.stamp) + [fact])
+                    self.assertEqual([one for one, reason in row],
+                                     sorted(beneath(store, fact), key=store.stamp) + [fact])
                     self.assertEqual([reason for one, reason in row], [store.reason(one) for one, reason in row])
                     self.assertEqual(height_of(row), slow_height(row, fact))
 
@@ -163,7 +162,8 @@ class Heights(unittest.TestCase):
 
 class Leaves(unittest.TestCase):
     def test_told_facts_in_order(self):
-        row = [(("p", "a"), TOLD), (("q",), TOLD), (("p", 5), TOLD), (("p",), TOLD), (("x",), by(0, has("p"))), (("a",), TOLD),
+        row = [(("p", "a"), TOLD), (("q",), TOLD), (("p", 5), TOLD), (("p",), TOLD), (("x",), by(0, has("p"))),
+               (("a",), TOLD),
                (("b",), of(1, (), (has("x"),)))]
         ahead = list(row)
         told = leaves_of(row)

@@ -2,7 +2,7 @@ import copy
 import random
 import unittest
 
-from helper import TOLD, facts_in, has, refusal_of, rules_in, slow_work, some_facts, some_program, store_with, whole
+from helper import TOLD, facts_in, has, refusal_of, rules_in, slow_work, some_worked, store_with, whole
 from whyfacts.errors import TooMany
 from whyfacts.reading import read_program
 from whyfacts.store import Store
@@ -37,7 +37,8 @@ class Closing(unittest.TestCase):
 
     def test_one_round(self):
         self.check("way(X, Y) if road(X, Y).", "road(b, c). road(a, b).", [
-            (("way", "b", "c"), ("by", 0, (has("road", "b", "c"),))), (("way", "a", "b"), ("by", 0, (has("road", "a", "b"),)))])
+            (("way", "b", "c"), ("by", 0, (has("road", "b", "c"),))),
+            (("way", "a", "b"), ("by", 0, (has("road", "a", "b"),)))])
 
     def test_reasons_have_all_grounds(self):
         self.check("p(Y) if q(X), not r(X), less(X, 5), plus(X, 1, Y), same(Y, Y).", "q(1). r(2). q(2).", [
@@ -64,7 +65,8 @@ class Closing(unittest.TestCase):
     def test_a_rule_is_asked_again_in_a_later_round(self):
         store = store_with("s. e(a, b). e(b, c). e(c, d). go(a).")
         rules = rules_in("go(Y) if go(X), e(X, Y). end if go(d), s. late if end.")
-        self.assertEqual(closed(store, rules, [0, 1, 2], 100), [("go", "b"), ("go", "c"), ("go", "d"), ("end",), ("late",)])
+        self.assertEqual(closed(store, rules, [0, 1, 2], 100), [("go", "b"), ("go", "c"), ("go", "d"), ("end",),
+                                                                ("late",)])
 
     def test_gathers_come_first_and_once(self):
         self.check("p(X) if q(X). many(N) if N is count: p(X).", "q(1). q(2). p(0).", [
@@ -78,10 +80,12 @@ class Closing(unittest.TestCase):
 
     def test_facts_of_gathers_are_grounds_in_the_first_round(self):
         self.check("big if many(N), less(1, N). many(N) if N is count: p(X).", "p(0). p(1).", [
-            (("many", 2), ("of", 1, (), ((has("p", 0),), (has("p", 1),)))), (("big",), ("by", 0, (has("many", 2), ("less", 1, 2))))])
+            (("many", 2), ("of", 1, (), ((has("p", 0),), (has("p", 1),)))),
+            (("big",), ("by", 0, (has("many", 2), ("less", 1, 2))))])
 
     def test_groups_that_tell_the_same_fact(self):
-        self.check("g(N) if N is count by X: p(X).", "p(b). p(a).", [(("g", 1), ("of", 0, ("b",), ((has("p", "b"),),)))])
+        self.check("g(N) if N is count by X: p(X).", "p(b). p(a).",
+                   [(("g", 1), ("of", 0, ("b",), ((has("p", "b"),),)))])
 
     def test_what_is_held_keeps_its_reason_and_stamp(self):
         store = store_with("q. r.")
@@ -97,7 +101,8 @@ class Closing(unittest.TestCase):
         self.check(rules, "a.", [(("h", 1), ("of", 5, (), ((has("a"),),))), (("b",), ("by", 0, (has("a"),)))], [0, 5])
 
     def test_a_name_below_a_not_that_comes_in_the_same_closing(self):
-        self.check("p if not q. q if s.", "s.", [(("p",), ("by", 0, (("not", ("q",)),))), (("q",), ("by", 1, (has("s"),)))])
+        self.check("p if not q. q if s.", "s.", [(("p",), ("by", 0, (("not", ("q",)),))),
+                                                 (("q",), ("by", 1, (has("s"),)))])
 
     def test_what_is_handed_in_stays_and_what_is_told_may_be_changed(self):
         rules = rules_in("b if a. c if b.")
@@ -124,7 +129,8 @@ class ClosingTooMany(unittest.TestCase):
             self.assertLessEqual(len(store.facts()), max(most, len(facts_in(told))))
 
     def test_just_there(self):
-        for rules in ["b if a. c if b.", "b if a. c if a.", "b if N is count: a. c if N is count: a.", "c if N is count: a. b if a."]:
+        for rules in ["b if a. c if b.", "b if a. c if a.", "b if N is count: a. c if N is count: a.",
+                      "c if N is count: a. b if a."]:
             self.check(rules, "a.", 3, None)
             self.check(rules, "a.", 2, TooMany)
             self.check(rules, "a.", 1, TooMany)
@@ -186,7 +192,8 @@ class FromTheStart(unittest.TestCase):
         self.assertEqual(store.facts()[8:], [("way", "a", "b"), ("way", "b", "c"), ("way", "d", "e"), ("way", "a", "c"),
                                              ("far", "a"), ("far", "d"), ("far", "e"), ("many", 3)])
         self.assertEqual(store.reason(("way", "a", "c")), ("by", 2, (has("way", "a", "b"), has("road", "b", "c"))))
-        self.assertEqual(store.reason(("many", 3)), ("of", 3, (), ((has("far", "a"),), (has("far", "d"),), (has("far", "e"),))))
+        self.assertEqual(store.reason(("many", 3)), ("of", 3, (), ((has("far", "a"),), (has("far", "d"),),
+                                                                   (has("far", "e"),))))
 
     def test_not_of_what_a_lower_layer_gives(self):
         self.assertEqual(worked_in("dry if not wet. wet if rain. rain.").facts(), [("rain",), ("wet",)])
@@ -194,7 +201,8 @@ class FromTheStart(unittest.TestCase):
         self.assertEqual(worked_in("a if not b. b if not c. c if not d. d if not e.").facts(), [("d",), ("b",)])
 
     def test_gathers_over_what_rules_gave(self):
-        self.assertEqual(worked_in("n(N) if N is count: p(X). p(X) if q(X). p(1). q(2). q(3).").facts()[3:], [("p", 2), ("p", 3), ("n", 3)])
+        self.assertEqual(worked_in("n(N) if N is count: p(X). p(X) if q(X). p(1). q(2). q(3).").facts()[3:],
+                         [("p", 2), ("p", 3), ("n", 3)])
         self.assertEqual(worked_in("n(N) if N is sum M: m(X, M). m(X, N) if N is count by X: e(X, Y). e(a, 1). e(a, 2). e(b, 1).").facts()[3:],
                          [("m", "a", 2), ("m", "b", 1), ("n", 3)])
 
@@ -214,7 +222,8 @@ class FromTheStart(unittest.TestCase):
         self.assertIs(refusal_of(worked, rules_in("m if n(1)."), told), TooMany)
 
     def test_up_to_200_facts_that_follow(self):
-        for rules in ["n(Y) if n(X), less(X, {}), plus(X, 1, Y).", "n(Y) if n(X), less(X, {}), plus(X, 1, Y). n(0) if n(0)."]:
+        for rules in ["n(Y) if n(X), less(X, {}), plus(X, 1, Y).",
+                      "n(Y) if n(X), less(X, {}), plus(X, 1, Y). n(0) if n(0)."]:
             self.assertEqual(len(worked(rules_in(rules.format(199)), [("n", 0)]).facts()), 200)
             self.assertIs(refusal_of(worked, rules_in(rules.format(200)), [("n", 0)]), TooMany)
         told = [("n", number) for number in range(100)]
@@ -248,15 +257,11 @@ class FromTheStart(unittest.TestCase):
 
 class Whole(unittest.TestCase):
     def test_against_the_slow_way_and_turned_about(self):
-        rng = random.Random(21)
+        rng = random.Random(4)
         follow = 0
-        for turn in range(300):
-            rules = some_program(rng)
-            told = some_facts(rng, rng.randint(0, 14))
-            if refusal_of(worked, rules, told) is TooMany:
-                continue
+        for turn, rules, told, store in some_worked(21, 300):
             with self.subTest(turn):
-                facts = worked(rules, told).facts()
+                facts = store.facts()
                 self.assertEqual(len(set(facts)), len(facts))
                 self.assertEqual(set(facts), slow_work(rules, told))
                 follow += len(facts) - len(set(told))

@@ -9,19 +9,23 @@ WET = ("rule", ("wet",), (("has", ("rain",)),))
 
 FACTS = [
     (("rain",), "rain"), (("road", "a", "b"), "road(a, b)"), (("load", "c", -5), "load(c, -5)"), (("n", 0), "n(0)"),
-    (("w", 1, "b", -3, "abcdefgh"), "w(1, b, -3, abcdefgh)"), (("n", 999999999, -999999999), "n(999999999, -999999999)"),
+    (("w", 1, "b", -3, "abcdefgh"), "w(1, b, -3, abcdefgh)"), (("n", 999999999, -999999999),
+                                                               "n(999999999, -999999999)"),
     (("rule", "rule"), "rule(rule)"),
 ]
 PARTS = [
-    (("has", ("rain",)), "rain"), (ROAD, "road(X, Y)"), (("not", ("rain",)), "not rain"), (("not", ("shut", "c", -5)), "not shut(c, -5)"),
+    (("has", ("rain",)), "rain"), (ROAD, "road(X, Y)"), (("not", ("rain",)), "not rain"),
+    (("not", ("shut", "c", -5)), "not shut(c, -5)"),
     (("less", "X", 3), "less(X, 3)"), (("same", "X", "Y"), "same(X, Y)"), (("plus", "X", 1, "Y"), "plus(X, 1, Y)"),
     (("less", 1, 3), "less(1, 3)"), (("plus", -1, -2, -3), "plus(-1, -2, -3)"), (("same", "a", 0), "same(a, 0)"),
 ]
 RULES = [
-    (("rule", ("way", "X", "Z"), (("has", ("way", "X", "Y")), ("has", ("road", "Y", "Z")))), "way(X, Z) if way(X, Y), road(Y, Z)."),
+    (("rule", ("way", "X", "Z"), (("has", ("way", "X", "Y")), ("has", ("road", "Y", "Z")))),
+     "way(X, Z) if way(X, Y), road(Y, Z)."),
     (WET, "wet if rain."),
     (("rule", ("dry",), (("not", ("rain",)),)), "dry if not rain."),
-    (("rule", ("p", "X", 1), (ROAD, ("not", ("shut", "X")), ("not", ("rain",)), ("less", "X", 3), ("plus", "X", 1, "Y"))),
+    (("rule", ("p", "X", 1), (ROAD, ("not", ("shut", "X")), ("not", ("rain",)), ("less", "X", 3),
+                              ("plus", "X", 1, "Y"))),
      "p(X, 1) if road(X, Y), not shut(X), not rain, less(X, 3), plus(X, 1, Y)."),
     (("rule", ("p",), (("same", "a", -1), ("not", ("q",)))), "p if same(a, -1), not q."),
     (("gather", ("load", "X", "T"), "sum", "T", "W", ("X",), (WIDE,)), "load(X, T) if T is sum W by X: road(X, Y, W)."),
@@ -90,7 +94,8 @@ class Programs(unittest.TestCase):
     def test_all_that_is_shown_is_read_to_the_same(self):
         rules = [rule for rule, text in RULES]
         facts = [fact for fact, text in FACTS]
-        self.assertEqual(shown_program(rules, facts), "\n".join([text for rule, text in RULES] + [text + "." for fact, text in FACTS]))
+        self.assertEqual(shown_program(rules, facts), "\n".join([text for rule, text in RULES] + [text + "." for fact,
+                                                                                                  text in FACTS]))
         self.assertEqual(read_program(shown_program(rules, facts)), (rules, facts))
 
     def test_what_is_handed_in_stays(self):

@@ -25,11 +25,12 @@ def way_between(names, begin, end):
     reached = [begin]
     place = 0
     while place < len(reached) and end not in came_from:
-        for name in names.get(reached[place], []):
-            if name not in came_from:
-                came_from[name] = reached[place]
-                reached.append(name)
+        here = reached[place]
         place += 1
+        for name in names.get(here, []):
+            if name not in came_from:
+                came_from[name] = here
+                reached.append(name)
     if end not in came_from:
         return None
     return way_back(came_from, begin, end)

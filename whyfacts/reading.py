@@ -1,7 +1,7 @@
 """Reading: texts of facts, bodies and rules, into the tuples that they tell."""
 
 from whyfacts.errors import NoText
-from whyfacts.forms import GATHER_KINDS, TERM_COUNTS, are_keys, is_body, is_fact, is_part, is_pattern, words_in
+from whyfacts.forms import GATHER_KINDS, TERM_COUNTS, are_keys, is_body, is_fact, is_pattern, words_in
 from whyfacts.signs import pieces_of
 from whyfacts.words import is_free, is_name
 
@@ -42,13 +42,6 @@ class Reader:
             raise NoText("something stands behind the end")
 
 
-def read_name(reader):
-    word = reader.taken()[1]
-    if not is_name(word):
-        raise NoText(f"{word} is no name")
-    return word
-
-
 def read_free(reader):
     word = reader.taken()[1]
     if not is_free(word):
@@ -75,27 +68,21 @@ def read_terms(reader):
 
 
 def read_pattern(reader):
-    pattern = (read_name(reader),)
+    pattern = (reader.taken()[1],)
     if reader.sees("("):
         pattern = pattern + read_terms(reader)
     if not is_pattern(pattern):
-        raise NoText("a pattern has at most four terms")
+        raise NoText("a pattern is a name and at most four terms")
     return pattern
 
 
-def read_test(reader, word):
-    test = (word,) + read_terms(reader)
-    if not is_part(test):
-        raise NoText(f"a {word} has another number of terms")
-    return test
-
-
+# Whether a test has as many terms as it should is left to read_parts.
 def read_part(reader):
     if reader.takes("not"):
         return ("not", read_pattern(reader))
     for word in TERM_COUNTS:
         if reader.takes(word):
-            return read_test(reader, word)
+            return (word,) + read_terms(reader)
     return ("has", read_pattern(reader))
 
 
@@ -104,7 +91,7 @@ def read_parts(reader):
     while reader.takes(","):
         parts.append(read_part(reader))
     if not is_body(tuple(parts)):
-        raise NoText("a body has at most six parts")
+        raise NoText("a body is of at most six parts, and each test of its own number of terms")
     return tuple(parts)
 
 

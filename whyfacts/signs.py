@@ -29,7 +29,7 @@ def end_of_run(text, begin):
 
 def is_number_text(run):
     figures = run[1:] if run.startswith("-") else run
-    if not 1 <= len(figures) <= MOST_FIGURES:
+    if len(figures) > MOST_FIGURES:
         return False
     if figures.startswith("0"):
         return run == "0"
