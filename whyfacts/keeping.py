@@ -35,20 +35,6 @@ def need_few(store):
         raise TooMany("more facts would be held than may be")
 
 
-def mend(store, rules, told, untold):
-    layers = layers_of(rules)
-    gone = []
-    came = []
-    for layer, numbers in enumerate(numbers_by_layer(rules)):
-        most = most_at_layer(store, layers, layer)
-        own_told = of_layer(told, layers, layer)
-        own_untold = of_layer(untold, layers, layer)
-        pair = layer_mended(store, rules, numbers, own_told, gone, came, own_untold, most)
-        gone = gone + pair[0]
-        came = came + pair[1]
-    need_few(store)
-
-
 def only_in(store, other):
     return sorted([fact for fact in store.facts() if not other.has(fact)], key=rank_of)
 
@@ -57,6 +43,8 @@ class Keep:
     def __init__(self, rules):
         self.rules = need_program(rules)
         self.widths = widths_of(self.rules)
+        self.layers = layers_of(self.rules)
+        self.numbers = numbers_by_layer(self.rules)
         self.told_facts = {}
         self.kept = Store()
 
@@ -67,11 +55,23 @@ class Keep:
             if self.widths.get(fact[0], width) != width:
                 raise BadWidth("the name of the fact has another width in the rules")
 
+    def mend(self, store, told, untold):
+        gone = []
+        came = []
+        for layer, numbers in enumerate(self.numbers):
+            own_told = of_layer(told, self.layers, layer)
+            own_untold = of_layer(untold, self.layers, layer)
+            most = most_at_layer(store, self.layers, layer)
+            pair = layer_mended(store, self.rules, numbers, own_told, gone, came, own_untold, most)
+            gone = gone + pair[0]
+            came = came + pair[1]
+        need_few(store)
+
     # All is done on copies, so that a refusal leaves everything as it was.
     def change(self, told, untold):
         ahead = self.kept
         store = ahead.copied()
-        mend(store, self.rules, list(told), untold)
+        self.mend(store, told, untold)
         self.kept = store
         self.told_facts = told
         return (only_in(store, ahead), only_in(ahead, store))
